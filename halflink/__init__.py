@@ -1,0 +1,1 @@
+"""Machines that exchange letters over a tree of two-way links."""

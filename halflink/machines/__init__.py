@@ -1,0 +1,1 @@
+"""Single machines: their states and transitions."""

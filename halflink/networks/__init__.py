@@ -1,0 +1,1 @@
+"""Networks of machines, and their configurations."""
