@@ -2,6 +2,7 @@
 
 from halflink.networks.configurations import configuration_with
 from halflink.networks.networks import make_network
+from halflink.runs.runner import Runner
 
 from tests.samples import A, CALL, MEET
 
@@ -29,7 +30,7 @@ ROWS = (
     {0: 0}, {True: "a"}, {None: None}, {("a", "b"): ("x",)}, {"a": []}, {"a": {}}, {"": ""}, {"A": "b"},
 )
 
-MADE = (A, CALL, MEET, configuration_with(CALL), (("a", 0), ("b", 0)), ((0,), (0,)), CALL[0])
+MADE = (A, CALL, MEET, configuration_with(CALL), (("a", 0), ("b", 0)), ((0,), (0,)), CALL[0], Runner(CALL))
 
 # Just too large, or wrong in one place that lies deep.
 FREE = tuple((name, (1, (), ())) for name in "abcdefg")

@@ -1,0 +1,1 @@
+"""Runs of a network, runners, and logs."""

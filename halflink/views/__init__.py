@@ -1,0 +1,1 @@
+"""Views of a network, and the acts between them."""

@@ -1,0 +1,135 @@
+"""The interface: names, arguments and kinds of values, and where each function and class is defined."""
+
+import importlib
+import inspect
+import unittest
+
+from halflink.networks.configurations import first_configuration
+from halflink.runs.runs import all_runs, possible_moves
+from halflink.views.views import first_view, possible_acts
+from tests.samples import CALL
+
+FUNCTIONS = {
+    "halflink.machines.machines": (
+        "is_machine(value)", "make_machine(size, *transitions, finals=())", "machine_from(size, transitions, finals)",
+        "neighbours_of(machine)", "is_single(value)", "transitions_at(machine, state)",
+        "letters_at(machine, state, word, other)", "reached_states(machine)", "trimmed(machine)",
+        "renamed_machine(machine, **names)", "machine_renamed_by(machine, names)",
+    ),
+    "halflink.networks.networks": (
+        "is_network(value)", "make_network(*links, **machines)", "network_from(machines, links)",
+        "machine_names(network)", "machine_of(network, name)", "channels_of(network)", "linked_to(network, name)",
+        "trees_of(network)", "way_between(network, one, other)", "with_machine(network, name, machine)",
+        "without_machine(network, name)", "with_link(network, one, other)", "without_link(network, one, other)",
+        "renamed_network(network, **new_names)", "renamed_network_by(network, new_names)",
+    ),
+    "halflink.networks.configurations": (
+        "is_configuration(network, value)", "first_configuration(network)",
+        "configuration_with(network, queues=None, **states)", "configuration_from(network, queues, states)",
+        "queue_of(network, configuration, sender, taker)", "letter_count(network, configuration)",
+        "crossed_links(network, configuration)",
+    ),
+    "halflink.runs.runs": (
+        "possible_moves(network, configuration)", "after_move(network, configuration, move)",
+        "is_run(network, value, *, start=None)", "after_run(network, run, *, start=None)",
+        "configurations_on(network, run, *, start=None)", "first_crossing(network, run, *, start=None)",
+        "all_runs(network, *, length, start=None)",
+    ),
+    "halflink.runs.logs": (
+        "logs_of(network, run, *, start=None)", "is_logs(network, value, *, start=None)",
+        "put_together(network, logs, *, start=None)", "after_logs(network, logs, *, start=None)",
+        "is_crossing_logs(network, value, *, start=None)", "messages_of(network, logs, *, start=None)",
+        "crossing_pair(network, logs, *, start=None)", "is_crossing_pair(network, logs, value, *, start=None)",
+        "exchanged_run(network, run, at, *, start=None)", "exchanges_between(network, first, second, *, start=None)",
+        "is_exchanges(network, first, second, value, *, start=None)",
+    ),
+    "halflink.views.views": (
+        "first_view(network, *, start=None)", "is_view(network, value, *, start=None)",
+        "possible_acts(network, view, *, start=None)", "is_exposed(network, view)",
+        "is_path(network, value, *, start=None)", "view_after(network, path, *, start=None)",
+        "after_path(network, path, *, start=None)", "run_of_path(network, path, *, start=None)",
+        "weight_of(network, path, *, start=None)",
+    ),
+}
+
+GENERATORS = (
+    (possible_moves, (CALL, first_configuration(CALL)), {}), (all_runs, (CALL,), {"length": 3}),
+    (possible_acts, (CALL, first_view(CALL)), {}),
+)
+
+CONSTANTS = (
+    ("halflink.machines.machines", "MAX_STATES", 30), ("halflink.machines.machines", "MAX_TRANSITIONS", 90),
+    ("halflink.networks.networks", "MAX_MACHINES", 6), ("halflink.runs.runs", "MAX_LENGTH", 60),
+    ("halflink.views.views", "MAX_START", 20),
+)
+
+METHODS = {
+    "__init__": "(self, network, *, start=None)", "put": "(self, run)", "do": "(self, *moves)",
+    "do_all": "(self, moves)", "back": "(self, many=1)", "__call__": "(self, move)",
+}
+
+
+def parameters(function):
+    """The names, kinds and default values of the parameters; all before a star are passed by position."""
+    kinds = {inspect.Parameter.POSITIONAL_ONLY: inspect.Parameter.POSITIONAL_OR_KEYWORD}
+    found = inspect.signature(function).parameters.values()
+    return [(part.name, kinds.get(part.kind, part.kind), part.default) for part in found]
+
+
+def written(text):
+    """The same of a signature as the document writes it."""
+    names = {}
+    exec(f"def told{text}:\n    pass", names)
+    return parameters(names["told"])
+
+
+class Interface(unittest.TestCase):
+    def test_functions(self):
+        for name, told in FUNCTIONS.items():
+            module = importlib.import_module(name)
+            for text in told:
+                word, bracket, rest = text.partition("(")
+                function = getattr(module, word)
+                self.assertTrue(inspect.isfunction(function), text)
+                self.assertEqual(function.__module__, name, text)
+                self.assertEqual(function.__code__.co_filename, module.__file__, text)
+                self.assertEqual((function.__name__, parameters(function)), (word, written(bracket + rest)))
+
+    def test_generators(self):
+        for function, arguments, keywords in GENERATORS:
+            found = function(*arguments, **keywords)
+            self.assertIs(iter(found), found)
+            self.assertTrue(inspect.isgenerator(found))
+            found.close()
+
+    def test_constants(self):
+        for name, word, value in CONSTANTS:
+            found = getattr(importlib.import_module(name), word)
+            self.assertEqual((type(found), found), (int, value))
+
+    def test_runner(self):
+        runner = importlib.import_module("halflink.runs.runner").Runner
+        self.assertTrue(inspect.isclass(runner))
+        self.assertEqual(runner.__module__, "halflink.runs.runner")
+        self.assertEqual((type(vars(runner)["LONGEST"]), runner.LONGEST), (int, 1000))
+        for name, signature in METHODS.items():
+            self.assertEqual(parameters(vars(runner)[name])[1:], written(signature)[1:], name)
+        for name in ("__contains__", "__getitem__", "__bool__", "__len__", "__str__", "__eq__"):
+            self.assertTrue(inspect.isfunction(vars(runner)[name]), name)
+        self.assertIs(type(vars(runner)["along"]), classmethod)
+        self.assertEqual(parameters(runner.along), written("(network, run, start)"))
+        for name in ("now", "next_moves", "done_moves"):
+            self.assertIs(type(vars(runner)[name]), property)
+        self.assertIsNotNone(vars(runner)["done_moves"].fset)
+
+    def test_errors(self):
+        errors = importlib.import_module("halflink.errors")
+        for name in ("LinkError", "InvalidMachine", "InvalidNetwork", "InvalidConfiguration", "InvalidLogs",
+                     "InvalidView", "InvalidWord", "InvalidOperation", "ParseError", "InvalidCommand", "UnknownName",
+                     "InvalidNumber", "InvalidRun", "InvalidPath", "TooMany", "Crossed", "NothingToUndo"):
+            self.assertEqual(getattr(errors, name).__module__, "halflink.errors")
+            self.assertTrue(issubclass(getattr(errors, name), Exception))
+
+
+if __name__ == "__main__":
+    unittest.main()
