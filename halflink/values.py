@@ -33,7 +33,16 @@ def is_name(value):
 
 def are_names(value):
     """Whether the value is a tuple of names or of letters."""
-    return isinstance(value, tuple) and all([is_name(part) for part in value])
+    if not isinstance(value, tuple):
+        return False
+    # Most queues repeat one letter; this first one is a letter itself.
+    known = "a"
+    for part in value:
+        if part != known:
+            if not is_name(part):
+                return False
+            known = part
+    return True
 
 
 def is_naming(value):
@@ -43,4 +52,7 @@ def is_naming(value):
 
 def is_ascending(parts):
     """Whether the parts of a tuple, which can be compared, ascend strictly."""
-    return all([low < high for low, high in zip(parts, parts[1:])])
+    for at in range(1, len(parts)):
+        if not parts[at - 1] < parts[at]:
+            return False
+    return True

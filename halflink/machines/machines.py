@@ -1,57 +1,75 @@
 """Machines: states, and transitions that send a letter, take a letter, or make a step."""
 
 from halflink.errors import InvalidMachine, InvalidNumber, InvalidOperation, UnknownName
-from halflink.values import is_ascending, is_name, is_naming, is_row, is_whole_from
+from halflink.values import is_name, is_naming, is_whole, is_whole_from
 
 MAX_STATES = 30
 MAX_TRANSITIONS = 90
+EXCHANGES = ("send", "take")
 
 
 def is_machine(value):
     """Whether the value is a machine."""
-    if not is_row(value, 3):
+    return is_machine_near(value, None)
+
+
+def is_machine_near(value, near):
+    """Whether the value is a machine with neighbours among these names; None stands for all names."""
+    if not isinstance(value, tuple) or len(value) != 3:
         return False
     size, finals, transitions = value
     return (
-        is_whole_from(size, 1, MAX_STATES)
+        is_whole(size)
+        and 1 <= size <= MAX_STATES
         and are_states(finals, size)
-        and is_ascending(finals)
-        and are_transitions(transitions, size)
+        and are_transitions(transitions, size, near)
         and len(transitions) <= MAX_TRANSITIONS
-        and is_ascending(transitions)
     )
 
 
 def are_states(value, size):
-    """Whether the value is a tuple of states of a machine of this size."""
-    return isinstance(value, tuple) and all([is_whole_from(state, 0, size - 1) for state in value])
+    """Whether the value is an ascending tuple of states of a machine of this size."""
+    if not isinstance(value, tuple):
+        return False
+    last = -1
+    for state in value:
+        if not is_whole(state) or not last < state < size:
+            return False
+        last = state
+    return True
 
 
-def are_transitions(value, size):
-    """Whether the value is a tuple of transitions of a machine of this size."""
-    return isinstance(value, tuple) and all([is_transition(part, size) for part in value])
-
-
-def is_transition(value, size):
-    """Whether the value is a transition of a machine of this size."""
-    return (
-        is_row(value, 3)
-        and is_whole_from(value[0], 0, size - 1)
-        and is_deed(value[1])
-        and is_whole_from(value[2], 0, size - 1)
-    )
-
-
-def is_deed(value):
-    """Whether the value is a send, a take or a step."""
-    if is_row(value, 3):
-        return is_exchange(value[0]) and is_name(value[1]) and is_name(value[2])
-    return is_row(value, 1) and value[0] == "step"
+def are_transitions(value, size, near):
+    """Whether the value is an ascending tuple of transitions of a machine of this size with such neighbours."""
+    if not isinstance(value, tuple):
+        return False
+    last = ()
+    for transition in value:
+        if not isinstance(transition, tuple) or len(transition) != 3:
+            return False
+        before, deed, behind = transition
+        # Every function checks whole networks: the short test of the common kind keeps this quick.
+        if not (type(before) is int or is_whole(before)) or not (type(behind) is int or is_whole(behind)):
+            return False
+        if not (0 <= before < size and 0 <= behind < size and isinstance(deed, tuple)):
+            return False
+        if len(deed) == 3:
+            word, other, letter = deed
+            if word not in EXCHANGES or not is_name(letter):
+                return False
+            if not (is_name(other) if near is None else other in near):
+                return False
+        elif len(deed) != 1 or deed[0] != "step":
+            return False
+        if not last < transition:
+            return False
+        last = transition
+    return True
 
 
 def is_exchange(word):
     """Whether the word is that of a deed with a letter."""
-    return word in ("send", "take")
+    return word in EXCHANGES
 
 
 def check_machine(machine):
@@ -75,9 +93,10 @@ def machine_from(size, transitions, finals):
     """The machine with a tuple of transitions and a tuple of final states, in any order and repeated."""
     if not is_whole_from(size, 1, MAX_STATES):
         raise InvalidNumber(size)
-    if not are_transitions(transitions, size):
+    # Only what has the right form can be sorted, so each part is looked at alone.
+    if not isinstance(transitions, tuple) or not all([are_transitions((part,), size, None) for part in transitions]):
         raise InvalidMachine("not a tuple of transitions between the states")
-    if not are_states(finals, size):
+    if not isinstance(finals, tuple) or not all([are_states((part,), size) for part in finals]):
         raise InvalidMachine("not a tuple of states as the final ones")
     machine = (size, tuple(sorted(set(finals))), tuple(sorted(set(transitions))))
     if len(machine[2]) > MAX_TRANSITIONS:

@@ -3,7 +3,7 @@
 from halflink.errors import InvalidConfiguration, InvalidOperation
 from halflink.machines.machines import check_state
 from halflink.networks.networks import channels_in, check_name, check_network, names_in
-from halflink.values import are_names, is_row, is_whole_from
+from halflink.values import are_names, is_row, is_whole
 
 
 def is_configuration(network, value):
@@ -22,10 +22,12 @@ def fits_network(network, value):
 
 def are_states_of(network, value):
     """Whether the value is a tuple with a state for each machine."""
-    return is_row(value, len(network[0])) and all([
-        is_whole_from(state, 0, machine[0] - 1)
-        for state, (_, machine) in zip(value, network[0])
-    ])
+    if not is_row(value, len(network[0])):
+        return False
+    for state, (_, machine) in zip(value, network[0]):
+        if not is_whole(state) or not 0 <= state < machine[0]:
+            return False
+    return True
 
 
 def are_queues_of(network, value):
@@ -41,7 +43,7 @@ def check_configuration(network, configuration):
 
 def first_in(network):
     """The first configuration of what is known to be a network."""
-    return (tuple([0 for _ in network[0]]), tuple([() for _ in channels_in(network)]))
+    return ((0,) * len(network[0]), ((),) * (2 * len(network[1])))
 
 
 def start_in(network, start):
@@ -118,8 +120,13 @@ def crossed_links(network, configuration):
 
 def crossed_in(network, configuration):
     """The crossed links in what is known to be a configuration."""
+    queues = configuration[1]
+    # A letter somewhere is rarer than none, and where there is none, no link needs to be looked up.
+    if not any(queues):
+        return ()
+    channels = channels_in(network)
     return tuple([
         (one, other)
         for one, other in network[1]
-        if queue_in(network, configuration, one, other) and queue_in(network, configuration, other, one)
+        if queues[channels.index((one, other))] and queues[channels.index((other, one))]
     ])

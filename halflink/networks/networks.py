@@ -1,7 +1,7 @@
 """Networks: machines under names, and links between them that form no circle."""
 
 from halflink.errors import InvalidNetwork, InvalidOperation, UnknownName
-from halflink.machines.machines import check_machine, is_machine, neighbours_in, with_neighbours_named
+from halflink.machines.machines import check_machine, is_machine_near, with_neighbours_named
 from halflink.values import are_names, is_ascending, is_name, is_naming, is_row
 
 MAX_MACHINES = 6
@@ -9,39 +9,37 @@ MAX_MACHINES = 6
 
 def is_network(value):
     """Whether the value is a network."""
-    if not is_row(value, 2):
+    if not isinstance(value, tuple) or len(value) != 2:
         return False
     machines, links = value
-    return (
-        are_machines(machines)
-        and are_links(links, [name for name, _ in machines])
-        and are_neighbours_linked(machines, links)
-    )
-
-
-def are_machines(value):
-    """Whether the value is what a network has as its machines."""
-    return (
-        isinstance(value, tuple)
-        and 1 <= len(value) <= MAX_MACHINES
-        and all([is_row(part, 2) and is_name(part[0]) and is_machine(part[1]) for part in value])
-        and is_ascending(tuple([name for name, _ in value]))
-    )
+    if not isinstance(machines, tuple) or not 1 <= len(machines) <= MAX_MACHINES:
+        return False
+    names = []
+    for part in machines:
+        if not isinstance(part, tuple) or len(part) != 2 or not is_name(part[0]):
+            return False
+        names.append(part[0])
+    if not is_ascending(names) or not are_links(links, names):
+        return False
+    for name, machine in machines:
+        near = [other if one == name else one for one, other in links if one == name or other == name]
+        if not is_machine_near(machine, near):
+            return False
+    return True
 
 
 def are_links(value, names):
     """Whether the value is what a network with these names has as its links."""
-    return (
-        isinstance(value, tuple)
-        and all([is_link(part, names) for part in value])
-        and is_ascending(value)
-        and is_without_circle(value, names)
-    )
-
-
-def is_link(value, names):
-    """Whether the value is a pair of two of these names, the smaller one first."""
-    return is_row(value, 2) and value[0] in names and value[1] in names and value[0] < value[1]
+    if not isinstance(value, tuple):
+        return False
+    for link in value:
+        if not isinstance(link, tuple) or len(link) != 2:
+            return False
+        one, other = link
+        if one not in names or other not in names or not one < other:
+            return False
+    # Three links are the fewest that form a circle.
+    return is_ascending(value) and (len(value) < 3 or is_without_circle(value, names))
 
 
 def is_without_circle(links, names):
@@ -55,15 +53,6 @@ def is_without_circle(links, names):
             if groups[name] == old:
                 groups[name] = new
     return True
-
-
-def are_neighbours_linked(machines, links):
-    """Whether each machine is linked to all of its neighbours."""
-    return all([
-        ordered_link(name, neighbour) in links
-        for name, machine in machines
-        for neighbour in neighbours_in(machine)
-    ])
 
 
 def ordered_link(one, other):
@@ -136,7 +125,7 @@ def machine_of(network, name):
 
 def channels_in(network):
     """The channels of what is known to be a network."""
-    return tuple(sorted(list(network[1]) + [(other, one) for one, other in network[1]]))
+    return tuple(sorted([*network[1], *[(other, one) for one, other in network[1]]]))
 
 
 def channels_of(network):

@@ -1,16 +1,18 @@
 """Logs: what each machine does in a run, whatever the others do in between."""
 
+from collections import deque
+
 from halflink.errors import InvalidLogs, InvalidNumber, InvalidOperation
 from halflink.networks.configurations import queue_in, start_in
 from halflink.networks.networks import channels_in, check_network, names_in
-from halflink.runs.runs import behind_move, behind_moves, is_run_from
+from halflink.runs.runs import check_moves, found_step, frozen, is_run_from
 from halflink.values import is_row, is_whole, is_whole_from
 
 
 def logs_of(network, run, *, start=None):
     """The logs of a run."""
     check_network(network)
-    behind_moves(network, run, start_in(network, start))
+    check_moves(network, run, start_in(network, start))
     return logs_in(network, run)
 
 
@@ -26,41 +28,78 @@ def is_logs(network, value, *, start=None):
     """Whether the value is the logs of some run."""
     check_network(network)
     first = start_in(network, start)
-    return joined_run(network, value, first) is not None
+    return joined(network, value, first) is not None
 
 
-def joined_run(network, value, start):
-    """The run in which always the first machine that can goes on, or None if the value is not logs."""
-    if not is_row(value, len(network[0])) or not all([isinstance(log, tuple) for log in value]):
-        return None
-    run = []
-    places = [0 for _ in value]
-    configuration = start
-    for _ in range(sum([len(log) for log in value])):
-        going_on = first_going_on(network, value, places, configuration)
-        # One comes to the end of logs in whatever order this is done, so being stuck once is enough.
-        if going_on is None:
+def planned(network, name, state, log):
+    """What a machine in this state does by its log, as pairs of a move and its step, and its last state; or None."""
+    channels = channels_in(network)
+    steps = {}
+    plan = []
+    for index in log:
+        # A boolean would be found under the index to which it is equal.
+        if not is_whole(index):
             return None
-        at, move, configuration = going_on
-        places[at] += 1
+        if index not in steps:
+            steps[index] = ((name, index), found_step(network, channels, name, index))
+        pair = steps[index]
+        if pair[1] is None or pair[1][1] != state:
+            return None
+        state = pair[1][2]
+        plan.append(pair)
+    return (plan, state)
+
+
+def joined(network, logs, start):
+    """The run in which always the first machine that can goes on, and what is behind it; None if these are no logs."""
+    if not is_row(logs, len(network[0])) or not all([isinstance(log, tuple) for log in logs]):
+        return None
+    plans, states = [], []
+    for name, state, log in zip(names_in(network), start[0], logs):
+        plan = planned(network, name, state, log)
+        if plan is None:
+            return None
+        plans.append(plan[0])
+        states.append(plan[1])
+    queues = [deque(list(queue)) for queue in start[1]]
+    run = merged(network, plans, queues)
+    # One comes to the end of logs in whatever order this is done, so being stuck once is enough.
+    if len(run) < sum([len(plan) for plan in plans]):
+        return None
+    return (tuple(run), frozen(states, queues))
+
+
+def merged(network, plans, queues):
+    """The list of the moves that always the first machine that can does, until none can; the queues change."""
+    names = names_in(network)
+    takers = [names.index(taker) for _, taker in channels_in(network)]
+    places = [0 for _ in plans]
+    run = []
+    at = 0
+    while at < len(plans):
+        plan, done = plans[at], places[at]
+        if done == len(plan):
+            at += 1
+            continue
+        move, (_, _, _, word, place, letter) = plan[done]
+        if word == "take":
+            queue = queues[place]
+            if not queue or queue[0] != letter:
+                at += 1
+                continue
+            queue.popleft()
         run.append(move)
-    return tuple(run)
-
-
-def first_going_on(network, logs, places, configuration):
-    """The first machine whose next transition is possible, its move, and what is behind it; or None."""
-    for at, name in enumerate(names_in(network)):
-        if places[at] < len(logs[at]):
-            move = (name, logs[at][places[at]])
-            behind = behind_move(network, configuration, move)
-            if behind is not None:
-                return (at, move, behind)
-    return None
+        places[at] = done + 1
+        if word == "send":
+            queues[place].append(letter)
+            # Of the machines that were passed over, only the taker can perhaps go on now.
+            at = min(at, takers[place])
+    return run
 
 
 def checked_run(network, logs, start):
-    """The run that puts the logs together; raise the error that is due for what is not logs."""
-    run = joined_run(network, logs, start)
+    """The run that puts the logs together, and what is behind it; raise the error that is due for what is not logs."""
+    run = joined(network, logs, start)
     if run is None:
         raise InvalidLogs("not the logs of a run")
     return run
@@ -69,21 +108,20 @@ def checked_run(network, logs, start):
 def put_together(network, logs, *, start=None):
     """The run with these logs in which always the first machine that can goes on."""
     check_network(network)
-    return checked_run(network, logs, start_in(network, start))
+    return checked_run(network, logs, start_in(network, start))[0]
 
 
 def after_logs(network, logs, *, start=None):
     """The configuration to which all runs with these logs lead."""
     check_network(network)
-    first = start_in(network, start)
-    return behind_moves(network, checked_run(network, logs, first), first)
+    return checked_run(network, logs, start_in(network, start))[1]
 
 
 def is_crossing_logs(network, value, *, start=None):
     """Whether the value is logs whose runs cross a link."""
     check_network(network)
     first = start_in(network, start)
-    if joined_run(network, value, first) is None:
+    if joined(network, value, first) is None:
         return False
     return found_crossing(network, value, first) is not None
 
@@ -120,9 +158,12 @@ def channel_messages(network, logs, start, channel):
 def places_of(network, logs, name, word, other):
     """The list of pairs of a letter and a place in the machine's log where it is sent to, or taken from, the other."""
     at = names_in(network).index(name)
-    transitions = network[0][at][1][2]
-    deeds = [transitions[index][1] for index in logs[at]]
-    return [(deed[2], place) for place, deed in enumerate(deeds) if deed[:2] == (word, other)]
+    letters = {
+        index: deed[2]
+        for index, (_, deed, _) in enumerate(network[0][at][1][2])
+        if deed[:2] == (word, other)
+    }
+    return [(letters[index], place) for place, index in enumerate(logs[at]) if index in letters]
 
 
 def is_sent_first(sent, taken):
@@ -189,7 +230,7 @@ def exchanged_run(network, run, at, *, start=None):
     """The run in which the moves at a position and behind it have changed places."""
     check_network(network)
     first = start_in(network, start)
-    behind_moves(network, run, first)
+    check_moves(network, run, first)
     if not is_whole_from(at, 0, len(run) - 2):
         raise InvalidNumber(at)
     early, late = run[at:at + 2]
@@ -201,8 +242,8 @@ def exchanged_run(network, run, at, *, start=None):
 
 def check_alike_runs(network, first, second, start):
     """Raise the error that is due for what is no run, and for runs with different logs."""
-    behind_moves(network, first, start)
-    behind_moves(network, second, start)
+    check_moves(network, first, start)
+    check_moves(network, second, start)
     if logs_in(network, first) != logs_in(network, second):
         raise InvalidLogs("the logs of the two runs differ")
 

@@ -3,7 +3,7 @@
 from halflink.errors import InvalidNumber, InvalidOperation, TooMany
 from halflink.networks.configurations import start_in
 from halflink.networks.networks import check_network
-from halflink.runs.runs import behind_move, behind_moves, configurations_behind, moves_in
+from halflink.runs.runs import behind_move, check_moves, configurations_behind, moves_in
 from halflink.values import is_whole_from
 
 
@@ -58,7 +58,7 @@ class Runner:
 
     def _put_behind(self, kept, moves):
         """Let the moves follow the first kept ones of the run, and return the configuration."""
-        behind_moves(self._network, moves, self._passed[kept])
+        check_moves(self._network, moves, self._passed[kept])
         if kept + len(moves) > self.LONGEST:
             raise TooMany(self.LONGEST)
         passed = configurations_behind(self._network, moves, self._passed[kept])

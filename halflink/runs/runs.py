@@ -1,22 +1,40 @@
 """Runs: moves that are done one after another."""
 
+from collections import deque
+
 from halflink.errors import InvalidNumber, InvalidOperation, InvalidRun
 from halflink.networks.configurations import check_configuration, crossed_in, start_in
 from halflink.networks.networks import channels_in, check_network
-from halflink.values import is_row, is_whole_from
+from halflink.values import is_whole, is_whole_from
 
 MAX_LENGTH = 60
 
 
-def found_transition(network, value):
-    """The place of the machine and the transition that a move names, or None if the value names none."""
-    if not is_row(value, 2):
+def found_transition(network, name, index):
+    """The place of the machine with this name, and its transition with this index, or None if there is none."""
+    if not is_whole(index):
         return None
-    name, index = value
     for at, (own, machine) in enumerate(network[0]):
-        if own == name and is_whole_from(index, 0, len(machine[2]) - 1):
-            return (at, machine[2][index])
+        if own == name:
+            return (at, machine[2][index]) if 0 <= index < len(machine[2]) else None
     return None
+
+
+def found_step(network, channels, name, index):
+    """What the machine with this name does by this index, or None if it has no such transition.
+
+    The place of the machine, the state before and behind, the word of the deed, and the place of the queue and the
+    letter, which are None for a step.
+    """
+    found = found_transition(network, name, index)
+    if found is None:
+        return None
+    at, (before, deed, behind) = found
+    if deed[0] == "step":
+        return (at, before, behind, "step", None, None)
+    word, other, letter = deed
+    channel = (name, other) if word == "send" else (other, name)
+    return (at, before, behind, word, channels.index(channel), letter)
 
 
 def replaced(parts, at, part):
@@ -26,30 +44,27 @@ def replaced(parts, at, part):
 
 def behind_move(network, configuration, value):
     """The configuration behind a move, or None if the value is not a possible move."""
-    found = found_transition(network, value)
-    if found is None:
+    if not isinstance(value, tuple) or len(value) != 2:
         return None
-    at, (before, deed, behind) = found
+    step = found_step(network, channels_in(network), value[0], value[1])
+    if step is None:
+        return None
+    return behind_step_of(configuration, step)
+
+
+def behind_step_of(configuration, step):
+    """The configuration behind what a move does, or None if it is not possible."""
+    at, before, behind, word, place, letter = step
     states, queues = configuration
     if states[at] != before:
         return None
-    if deed[0] != "step":
-        queues = queues_behind(channels_in(network), queues, value[0], deed)
-        if queues is None:
-            return None
-    return (replaced(states, at, behind), queues)
-
-
-def queues_behind(channels, queues, name, deed):
-    """The queues behind a send or a take of the machine, or None if the letter to take is not the first one."""
-    word, other, letter = deed
     if word == "send":
-        place = channels.index((name, other))
-        return replaced(queues, place, queues[place] + (letter,))
-    place = channels.index((other, name))
-    if queues[place][:1] != (letter,):
-        return None
-    return replaced(queues, place, queues[place][1:])
+        queues = replaced(queues, place, queues[place] + (letter,))
+    elif word == "take":
+        if queues[place][:1] != (letter,):
+            return None
+        queues = replaced(queues, place, queues[place][1:])
+    return (replaced(states, at, behind), queues)
 
 
 def ways_on(network, configuration):
@@ -87,23 +102,71 @@ def after_move(network, configuration, move):
     return behind
 
 
-def behind_moves(network, moves, start):
-    """The configuration behind a tuple of moves; raise the error that is due for the first impossible one."""
+def walked(network, moves, start):
+    """How many of the moves are possible, one after another, and the states and queues behind these."""
+    states = list(start[0])
+    queues = [deque(list(queue)) for queue in start[1]]
+    channels = channels_in(network)
+    steps = {}
+    for many, move in enumerate(moves):
+        if not isinstance(move, tuple) or len(move) != 2:
+            return (many, states, queues)
+        name, index = move
+        # A boolean would be found under the index to which it is equal.
+        if not isinstance(name, str) or not (type(index) is int or is_whole(index)):
+            return (many, states, queues)
+        if move not in steps:
+            steps[move] = found_step(network, channels, name, index)
+        step = steps[move]
+        if step is None or states[step[0]] != step[1]:
+            return (many, states, queues)
+        at, _, behind, word, place, letter = step
+        if word == "send":
+            queues[place].append(letter)
+        elif word == "take":
+            queue = queues[place]
+            if not queue or queue[0] != letter:
+                return (many, states, queues)
+            queue.popleft()
+        states[at] = behind
+    return (len(moves), states, queues)
+
+
+def frozen(states, queues):
+    """The configuration with a list of states and a list of deques of letters."""
+    return (tuple(states), tuple([tuple(list(queue)) for queue in queues]))
+
+
+def check_moves(network, moves, start):
+    """The states and queues behind a tuple of moves; raise the error that is due for the first impossible one."""
     if not isinstance(moves, tuple):
         raise InvalidRun(0)
-    configuration = start
-    for at, move in enumerate(moves):
-        configuration = behind_move(network, configuration, move)
-        if configuration is None:
-            raise InvalidRun(at)
-    return configuration
+    many, states, queues = walked(network, moves, start)
+    if many < len(moves):
+        raise InvalidRun(many)
+    return (states, queues)
+
+
+def behind_moves(network, moves, start):
+    """The configuration behind a tuple of moves; raise the error that is due for the first impossible one."""
+    states, queues = check_moves(network, moves, start)
+    return frozen(states, queues)
 
 
 def configurations_behind(network, run, start):
     """The list of the configurations on what is known to be a run."""
+    channels = channels_in(network)
+    steps = {move: found_step(network, channels, move[0], move[1]) for move in sorted(set(run))}
+    states, queues = list(start[0]), list(start[1])
     passed = [start]
     for move in run:
-        passed.append(behind_move(network, passed[-1], move))
+        at, _, behind, word, place, letter = steps[move]
+        states[at] = behind
+        if word == "send":
+            queues[place] = queues[place] + (letter,)
+        elif word == "take":
+            queues[place] = queues[place][1:]
+        passed.append((tuple(states), tuple(queues)))
     return passed
 
 
@@ -115,11 +178,7 @@ def is_run(network, value, *, start=None):
 
 def is_run_from(network, value, start):
     """Whether the value is a run from what is known to be a configuration."""
-    try:
-        behind_moves(network, value, start)
-    except InvalidRun:
-        return False
-    return True
+    return isinstance(value, tuple) and walked(network, value, start)[0] == len(value)
 
 
 def after_run(network, run, *, start=None):
@@ -132,21 +191,34 @@ def configurations_on(network, run, *, start=None):
     """All configurations on the run, the first and the last one included."""
     check_network(network)
     first = start_in(network, start)
-    behind_moves(network, run, first)
+    check_moves(network, run, first)
     return tuple(configurations_behind(network, run, first))
 
 
 def first_crossing(network, run, *, start=None):
     """The least number of moves of the run behind which a link is crossed, or None."""
     check_network(network)
-    configuration = start_in(network, start)
-    behind_moves(network, run, configuration)
-    if crossed_in(network, configuration):
+    first = start_in(network, start)
+    check_moves(network, run, first)
+    return crossing_on(network, run, first)
+
+
+def crossing_on(network, run, start):
+    """The least number of moves of what is known to be a run behind which a link is crossed, or None."""
+    if crossed_in(network, start):
         return 0
+    channels = channels_in(network)
+    opposite = [channels.index((taker, sender)) for sender, taker in channels]
+    many = [len(queue) for queue in start[1]]
+    steps = {move: found_step(network, channels, move[0], move[1]) for move in sorted(set(run))}
     for at, move in enumerate(run):
-        configuration = behind_move(network, configuration, move)
-        if crossed_in(network, configuration):
-            return at + 1
+        _, _, _, word, place, _ = steps[move]
+        if word == "send":
+            many[place] += 1
+            if many[opposite[place]] > 0:
+                return at + 1
+        elif word == "take":
+            many[place] -= 1
     return None
 
 

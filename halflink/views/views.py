@@ -12,6 +12,8 @@ MAX_START = 20
 def viewed_start(network, start):
     """The configuration in which paths begin; raise the errors that are due for the parameter start."""
     configuration = start_in(network, start)
+    if start is None:
+        return configuration
     if any([len(queue) > MAX_START for queue in configuration[1]]):
         raise TooMany(MAX_START)
     if crossed_in(network, configuration):
@@ -27,6 +29,8 @@ def first_view(network, *, start=None):
 
 def view_of_start(network, start):
     """The first view from what is known to be an uncrossed configuration."""
+    if not any(start[1]):
+        return (start[0], ((),) * len(network[1]))
     return (start[0], tuple([start_hold(network, start, link) for link in network[1]]))
 
 
@@ -97,7 +101,7 @@ def linked_at(network, one, other):
 
 def ready_deed(network, view, name, index, word):
     """The place of the machine, and deed and next state of its transition, if it can do it now and it has this word."""
-    found = found_transition(network, (name, index))
+    found = found_transition(network, name, index)
     if found is None:
         return None
     at, (before, deed, behind) = found
