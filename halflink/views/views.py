@@ -9,13 +9,18 @@ from halflink.values import is_name, is_row, is_whole_from
 MAX_START = 20
 
 
+def short_start(network, start):
+    """The configuration in which paths begin, perhaps a crossed one; raise the errors that are due for others."""
+    configuration = start_in(network, start)
+    for queue in configuration[1]:
+        if len(queue) > MAX_START:
+            raise TooMany(MAX_START)
+    return configuration
+
+
 def viewed_start(network, start):
     """The configuration in which paths begin; raise the errors that are due for the parameter start."""
-    configuration = start_in(network, start)
-    if start is None:
-        return configuration
-    if any([len(queue) > MAX_START for queue in configuration[1]]):
-        raise TooMany(MAX_START)
+    configuration = short_start(network, start)
     if crossed_in(network, configuration):
         raise Crossed(())
     return configuration

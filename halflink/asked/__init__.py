@@ -1,0 +1,1 @@
+"""What is asked of one-way networks."""
