@@ -4,8 +4,10 @@ import importlib
 import inspect
 import unittest
 
+from halflink.asked.reach import quiet_rows, reached_rows
 from halflink.networks.configurations import first_configuration
 from halflink.runs.runs import all_runs, possible_moves
+from halflink.views.oneway import view_numbers
 from halflink.views.views import first_view, possible_acts
 from tests.samples import CALL
 
@@ -50,17 +52,42 @@ FUNCTIONS = {
         "after_path(network, path, *, start=None)", "run_of_path(network, path, *, start=None)",
         "weight_of(network, path, *, start=None)",
     ),
+    "halflink.views.arranged": (
+        "arrangement_of(network, run, *, start=None)", "is_arrangement(network, run, value, *, start=None)",
+    ),
+    "halflink.views.oneway": (
+        "is_one_way(network, *, start=None)", "crossing_run(network, *, start=None)",
+        "view_numbers(network, *, start=None)", "one_way_paper(network, *, start=None)",
+        "is_one_way_paper(network, value, *, start=None)", "nearest_paper(network, *, start=None)",
+        "is_nearest_paper(network, value, *, start=None)",
+    ),
+    "halflink.asked.reach": (
+        "reach_paper(network, configuration, *, start=None)",
+        "is_reach_paper(network, configuration, value, *, start=None)",
+        "shortest_run(network, configuration, *, start=None)", "is_reached(network, configuration, *, start=None)",
+        "quiet_rows(network, *, start=None)", "reached_rows(network, *, start=None)",
+        "meeting_run(network, *, start=None, **states)", "meeting_run_by(network, states, *, start=None)",
+    ),
+    "halflink.asked.ends": (
+        "movable_machines(network, configuration)", "is_dead_end(network, configuration)",
+        "is_finished(network, configuration)", "refusing_channels(network, configuration)",
+        "end_paper(network, *, start=None)", "is_end_paper(network, value, *, start=None)",
+        "refusal_paper(network, sender, taker, *, start=None)",
+        "is_refusal_paper(network, sender, taker, value, *, start=None)",
+        "finish_paper(network, *, start=None)", "is_finish_paper(network, value, *, start=None)",
+    ),
 }
 
 GENERATORS = (
     (possible_moves, (CALL, first_configuration(CALL)), {}), (all_runs, (CALL,), {"length": 3}),
-    (possible_acts, (CALL, first_view(CALL)), {}),
+    (possible_acts, (CALL, first_view(CALL)), {}), (view_numbers, (CALL,), {}), (quiet_rows, (CALL,), {}),
+    (reached_rows, (CALL,), {}),
 )
 
 CONSTANTS = (
     ("halflink.machines.machines", "MAX_STATES", 30), ("halflink.machines.machines", "MAX_TRANSITIONS", 90),
     ("halflink.networks.networks", "MAX_MACHINES", 6), ("halflink.runs.runs", "MAX_LENGTH", 60),
-    ("halflink.views.views", "MAX_START", 20),
+    ("halflink.views.views", "MAX_START", 20), ("halflink.views.oneway", "MAX_VIEWS", 2000),
 )
 
 METHODS = {

@@ -315,7 +315,8 @@ class Papers(Case):
 
 class Errors(Case):
     def test_networks_and_starts(self):
-        calls = [(function, ()) for function in SEARCHES + (view_numbers,)] + [(function, (None,)) for function in JUDGES]
+        calls = [(function, ()) for function in SEARCHES + (view_numbers,)]
+        calls += [(function, (None,)) for function in JUDGES]
         for function, rest in calls:
             for value in unlike(spec.network):
                 self.fails(InvalidNetwork, function, value, *rest, start=0)
