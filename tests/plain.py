@@ -271,3 +271,14 @@ def bounded_paper(net, numbers, run, weights, start):
                 return False
     conf = end_of(net, run, start)
     return conf is not None and load(net, conf, weights) == max(numbers.values())
+
+
+def all_reached(net, start, most):
+    """All configurations that runs lead to, or None if there are more than so many."""
+    found, waiting = {start}, [start]
+    while waiting and len(found) <= most:
+        for behind in spec.steps(net, waiting.pop()).values():
+            if behind not in found:
+                found.add(behind)
+                waiting.append(behind)
+    return found if len(found) <= most else None

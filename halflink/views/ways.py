@@ -172,3 +172,47 @@ def are_closed(source, value):
             if behind not in inside:
                 return False
     return True
+
+
+def finished_order(ways, first):
+    """The list of the nodes to which ways lead from the first one, each behind all that are only reached through it."""
+    met = {first: True}
+    order = []
+    waiting = [(first, 0)]
+    while waiting:
+        node, done = waiting.pop()
+        if done == len(ways[node]):
+            order.append(node)
+            continue
+        waiting.append((node, done + 1))
+        behind = ways[node][done][1]
+        if behind not in met:
+            met[behind] = True
+            waiting.append((behind, 0))
+    return order
+
+
+def components(ways, first):
+    """A number for each node: the same one for nodes from which ways lead to one another, and greater ones ahead."""
+    back = {node: [] for node in ways}
+    for node in ways:
+        for _, behind in ways[node]:
+            back[behind].append(node)
+    places = {}
+    place = 0
+    for node in finished_order(ways, first)[::-1]:
+        if node not in places:
+            mark_component(back, node, places, place)
+            place += 1
+    return places
+
+
+def mark_component(back, node, places, place):
+    """Give a number to all nodes from which ways lead to this one and that have none yet."""
+    places[node] = place
+    waiting = [node]
+    while waiting:
+        for other in back[waiting.pop()]:
+            if other not in places:
+                places[other] = place
+                waiting.append(other)

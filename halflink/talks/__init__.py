@@ -1,0 +1,1 @@
+"""Words, talks, and machines that are alike."""
