@@ -9,7 +9,8 @@ from halflink.networks.configurations import first_configuration
 from halflink.runs.runs import all_runs, possible_moves
 from halflink.views.oneway import view_numbers
 from halflink.views.views import first_view, possible_acts
-from tests.samples import CALL
+from halflink.talks.talks import Talk
+from tests.samples import A, CALL
 
 FUNCTIONS = {
     "halflink.machines.machines": (
@@ -76,23 +77,48 @@ FUNCTIONS = {
         "is_refusal_paper(network, sender, taker, value, *, start=None)",
         "finish_paper(network, *, start=None)", "is_finish_paper(network, value, *, start=None)",
     ),
+    "halflink.asked.bounds": (
+        "load_of(network, configuration, *, weights=None)", "greatest_load(network, *, weights=None, start=None)",
+        "load_paper(network, *, weights=None, start=None)",
+        "is_load_paper(network, value, *, weights=None, start=None)", "queue_bounds(network, *, start=None)",
+    ),
+    "halflink.talks.words": (
+        "is_word(value)", "mirrored_word(word)", "indices_doing(machine, word)", "is_doing(machine, word, value)",
+        "states_after(machine, word)",
+    ),
+    "halflink.talks.alike": (
+        "paired_network(left, right)", "are_alike(first, second)", "careful_difference(first, second)",
+        "likeness_of(first, second)", "is_likeness(first, second, value)", "mirror_machine(word, other)",
+        "telling_surrounding(first, second)", "is_telling(first, second, value)",
+    ),
 }
 
 GENERATORS = (
     (possible_moves, (CALL, first_configuration(CALL)), {}), (all_runs, (CALL,), {"length": 3}),
     (possible_acts, (CALL, first_view(CALL)), {}), (view_numbers, (CALL,), {}), (quiet_rows, (CALL,), {}),
-    (reached_rows, (CALL,), {}),
+    (reached_rows, (CALL,), {}), (Talk.of(A).words, (), {}),
 )
 
 CONSTANTS = (
     ("halflink.machines.machines", "MAX_STATES", 30), ("halflink.machines.machines", "MAX_TRANSITIONS", 90),
     ("halflink.networks.networks", "MAX_MACHINES", 6), ("halflink.runs.runs", "MAX_LENGTH", 60),
     ("halflink.views.views", "MAX_START", 20), ("halflink.views.oneway", "MAX_VIEWS", 2000),
+    ("halflink.asked.bounds", "MAX_WEIGHT", 1000),
 )
 
 METHODS = {
     "__init__": "(self, network, *, start=None)", "put": "(self, run)", "do": "(self, *moves)",
     "do_all": "(self, moves)", "back": "(self, many=1)", "__call__": "(self, move)",
+}
+
+TALK_METHODS = {
+    "__call__": "(self, word)", "is_within": "(self, other)", "careful": "(self)", "count": "(self, length)",
+    "words": "(self, *, longest=4)", "machine": "(self, other)",
+}
+
+TALK_CLASS_METHODS = {
+    "of": "(machine)", "careful_of": "(machine)", "from_words": "(*words)", "by_words": "(words)",
+    "from_rows": "(rows)",
 }
 
 
@@ -148,6 +174,23 @@ class Interface(unittest.TestCase):
         for name in ("now", "next_moves", "done_moves"):
             self.assertIs(type(vars(runner)[name]), property)
         self.assertIsNotNone(vars(runner)["done_moves"].fset)
+
+    def test_talk(self):
+        talk = importlib.import_module("halflink.talks.talks").Talk
+        self.assertTrue(inspect.isclass(talk))
+        self.assertEqual(talk.__module__, "halflink.talks.talks")
+        self.assertEqual((type(vars(talk)["LIMIT"]), talk.LIMIT), (int, 200))
+        for name, signature in TALK_METHODS.items():
+            self.assertTrue(inspect.isfunction(vars(talk)[name]), name)
+            self.assertEqual(parameters(vars(talk)[name])[1:], written(signature)[1:], name)
+        for name, signature in TALK_CLASS_METHODS.items():
+            self.assertIs(type(vars(talk)[name]), classmethod, name)
+            self.assertEqual(parameters(getattr(talk, name)), written(signature), name)
+        for name in ("__contains__", "__getitem__", "__and__", "__or__", "__neg__", "__bool__", "__len__", "__str__",
+                     "__eq__"):
+            self.assertTrue(inspect.isfunction(vars(talk)[name]), name)
+        for name in ("rows", "signs", "is_careful"):
+            self.assertIs(type(vars(talk)[name]), property)
 
     def test_errors(self):
         errors = importlib.import_module("halflink.errors")
