@@ -92,8 +92,8 @@ class Alike(Case):
                   [True, ((("send", "go"),), 1), True])
 
     def test_paired_networks(self):
-        self.gives(make_network(("left", "right"), left=renamed_machine(A, b="right"), right=renamed_machine(B, a="left")),
-                   paired_network, A, B)
+        wanted = make_network(("left", "right"), left=renamed_machine(A, b="right"), right=renamed_machine(B, a="left"))
+        self.gives(wanted, paired_network, A, B)
         self.gives(make_network(("left", "right"), left=NONE, right=NONE), paired_network, NONE, NONE)
         for first, second in PAIRS:
             network = paired_network(first, second)
@@ -201,7 +201,8 @@ class Alike(Case):
         right = (mirror_machine((("send", "y"),), "p"), "end")
         for value in list(spoiled(right, FEW[:14] + ("crossing", "p"))) + list(ALL):
             self.gives(telling(LOUD, A, value), is_telling, LOUD, A, value)
-        for value in ((MID, "end"), (NONE, "other"), (NONE,), [NONE, "end"], (NONE, ["end"]), ("end", NONE), (None, "end")):
+        for value in ((MID, "end"), (NONE, "other"), (NONE,), [NONE, "end"], (NONE, ["end"]), ("end", NONE),
+                      (None, "end")):
             self.gives(False, is_telling, LOUD, A, value)
 
 

@@ -234,7 +234,8 @@ class Asked(Case):
         self.same(first[:102], [()] + [(sign,) for sign in wide.signs] + [(wide.signs[0],) * 2])
         self.same(first, sorted(first, key=order))
         # Of the words with 200 signs, only one is there; the others end early.
-        rows = tuple(((("send", "a"), at + 1), (("send", "b"), 199)) for at in range(198)) + (((("send", "a"), 199),), ())
+        rows = tuple(((("send", "a"), at + 1), (("send", "b"), 199)) for at in range(198))
+        rows += (((("send", "a"), 199),), ())
         found = list(Talk.from_rows(rows).words(longest=200))
         self.assertEqual(len(found), 1 + 2 * 198 + 1)
         self.same(found[-1], (("send", "a"),) * 199)

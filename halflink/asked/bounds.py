@@ -73,7 +73,7 @@ def greatest_numbers(ways, places, gains, begun):
     # Between views from which ways lead to one another, nothing is added, so all of them have the same number. The
     # place of the first view is 0.
     best = {0: begun}
-    for place, view in sorted([(places[view], view) for view in ways]):
+    for place, view in sorted([(places[node], node) for node in ways]):
         for act, behind in ways[view]:
             number = best[place] + gains.of_act(act)
             if places[behind] not in best or best[places[behind]] < number:
@@ -109,9 +109,13 @@ def placed_views(network, start):
     return (source, ways, components(ways, source.first))
 
 
-def greatest_in(paper):
-    """The greatest load that a load paper shows, or None."""
-    return max(list(paper[1].values())) if paper[0] == "bounded" else None
+def greatest_in(network, views, weights):
+    """The greatest load, or None, for the source of the views and all ways between them."""
+    source, ways, places = views
+    gains = Gains(network, weights)
+    if growing_way(ways, places, gains) is not None:
+        return None
+    return max(list(greatest_numbers(ways, places, gains, load_in(source.start, weights)).values()))
 
 
 def load_paper(network, *, weights=None, start=None):
@@ -123,7 +127,9 @@ def load_paper(network, *, weights=None, start=None):
 
 def greatest_load(network, *, weights=None, start=None):
     """The greatest load of all configurations that runs lead to, or None if there is none."""
-    return greatest_in(load_paper(network, weights=weights, start=start))
+    check_network(network)
+    given = weights_in(network, weights)
+    return greatest_in(network, placed_views(network, start), given)
 
 
 def queue_bounds(network, *, start=None):
@@ -132,7 +138,7 @@ def queue_bounds(network, *, start=None):
     views = placed_views(network, start)
     places = range(2 * len(network[1]))
     rows = [tuple([1 if at == place else 0 for at in places]) for place in places]
-    return tuple([greatest_in(paper_in(network, views, weights)) for weights in rows])
+    return tuple([greatest_in(network, views, weights) for weights in rows])
 
 
 def is_load_paper(network, value, *, weights=None, start=None):

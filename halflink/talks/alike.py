@@ -3,7 +3,7 @@
 from halflink.errors import InvalidOperation, TooMany
 from halflink.machines.machines import MAX_STATES, are_states, is_single, neighbours_in, with_neighbours_named
 from halflink.networks.configurations import first_in
-from halflink.talks.tables import MAX_SETS, table_of_rows
+from halflink.talks.tables import MAX_SETS, signs_of_both, table_of_rows
 from halflink.talks.talks import Talk
 from halflink.talks.words import Doing, check_single, check_word, mirrored_sign
 from halflink.values import is_ascending, is_name, is_row
@@ -58,7 +58,7 @@ def smallest_difference(one, other):
         # The words of a level ascend, so the first difference is the smallest one.
         for word, here, there in level:
             near, far = table[here], far_table[there]
-            for sign in sorted([*near, *[sign for sign in far if sign not in near]]):
+            for sign in signs_of_both(near, far):
                 if sign not in near or sign not in far:
                     return (word + (sign,), 0 if sign in near else 1)
                 behind = (near[sign], far[sign])

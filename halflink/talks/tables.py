@@ -75,7 +75,7 @@ def table_of_either(one, other):
         near = {} if here is None else one[here]
         far = {} if there is None else other[there]
         row = {}
-        for sign in sorted([*near, *[sign for sign in far if sign not in near]]):
+        for sign in signs_of_both(near, far):
             behind = (near.get(sign), far.get(sign))
             if behind not in numbers:
                 numbers[behind] = len(pairs)
@@ -83,6 +83,11 @@ def table_of_either(one, other):
             row[sign] = numbers[behind]
         table.append(row)
     return table
+
+
+def signs_of_both(row, other):
+    """The list of the signs that can be read at one of two places at least, ascending."""
+    return sorted([*row, *[sign for sign in other if sign not in row]])
 
 
 def careful_table(table):

@@ -135,7 +135,8 @@ class Doing:
         met = {state: True for state in states}
         waiting = list(states)
         while waiting:
-            for behind in self._steps[waiting.pop()]:
+            here = waiting.pop()
+            for behind in self._steps[here]:
                 if behind not in met:
                     met[behind] = True
                     waiting.append(behind)

@@ -56,7 +56,7 @@ def view_numbers(network, *, start=None):
     check_network(network)
     source = ViewWays(network, viewed_start(network, start))
     numbers, _ = least_weights(explored(source, MAX_VIEWS), source.first)
-    for number, view in sorted([(numbers[view], view) for view in numbers]):
+    for number, view in sorted([(numbers[node], node) for node in numbers]):
         yield (view, number)
 
 

@@ -212,7 +212,8 @@ def mark_component(back, node, places, place):
     places[node] = place
     waiting = [node]
     while waiting:
-        for other in back[waiting.pop()]:
+        here = waiting.pop()
+        for other in back[here]:
             if other not in places:
                 places[other] = place
                 waiting.append(other)
