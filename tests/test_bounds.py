@@ -128,11 +128,27 @@ class Loads(Case):
         self.gives(None, greatest_load, BUSY)
         words = {dict(BUSY[0])[name][2][index][1][0] for name, index in paper[2]}
         self.same(sorted(words), ["send", "take"])
+        self.gives(True, is_load_paper, BUSY, paper)
+        self.gives(True, is_load_paper, BUSY, ("unbounded", paper[1], paper[2] * 200))
         self.gives((1, None, 1, 0), queue_bounds, BUSY)
         self.gives(1, greatest_load, BUSY, weights=(1, 0, 1, 1))
         self.gives(None, greatest_load, BUSY, weights=(0, 1, 0, 0))
         self.gives(0, greatest_load, BUSY, weights=(0, 0, 0, 1))
         self.gives(1000, greatest_load, BUSY, weights=(1000, 0, 1, 1))
+
+    def test_long_rounds(self):
+        # c leaves letters for d and e in turn, with steps between: each queue grows by a round of many acts.
+        for many in (2, 3, 6, 14):
+            steps = [(at, ("step",), (at + 1) % (2 * many)) for at in range(2 * many) if at % many != 0]
+            network = make_network(
+                ("c", "d"), ("c", "e"), d=NONE, e=NONE,
+                c=make_machine(2 * many, (0, ("send", "d", "x"), 1), (many, ("send", "e", "x"), many + 1), *steps))
+            self.gives((None, None, 0, 0), queue_bounds, network)
+            for weights in ((1, 0, 0, 0), (0, 1, 0, 0), (1, 1, 1, 1)):
+                paper = load_paper(network, weights=weights)
+                self.assertTrue(plain.load_paper(network, paper, weights, spec.first(network)))
+                self.repeated(network, paper, weights, spec.first(network))
+            self.gives(0, greatest_load, network, weights=(0, 0, 5, 5))
 
     def test_many_views(self):
         self.gives(0, greatest_load, sizes.VIEWS_2000)
@@ -220,6 +236,16 @@ class Papers(Case):
         self.gives(False, is_load_paper, other, ("unbounded", (("c", 0),), (("d", 0), ("c", 1), ("c", 1))))
         self.gives(True, is_load_paper, other, ("unbounded", (("c", 0), ("d", 0)), (("c", 1), ("c", 0))))
         self.gives(True, is_load_paper, other, ("unbounded", (), (("c", 1),)))
+
+    def test_loops_that_empty_a_queue(self):
+        # The load grows, but a queue with a letter before the loop is empty behind it.
+        network = make_network(("c", "d"), ("c", "e"), c=make_machine(1, (0, ("send", "e", "x"), 0)), e=NONE,
+                               d=make_machine(1, (0, ("take", "c", "x"), 0)))
+        start = configuration_with(network, {("c", "d"): ("x",)})
+        self.gives(False, is_load_paper, network, ("unbounded", (), (("d", 0), ("c", 0), ("c", 0))), start=start)
+        self.gives(False, is_load_paper, network, ("unbounded", (), (("d", 0), ("c", 0))), start=start)
+        self.gives(True, is_load_paper, network, ("unbounded", (), (("c", 0), ("c", 0))), start=start)
+        self.gives(True, is_load_paper, network, ("unbounded", (("d", 0),), (("c", 0),)), start=start)
 
     def test_crossed_starts_and_networks_that_are_not_one_way(self):
         rash = make_network(("p", "q"), p=make_machine(1, (0, ("send", "q", "x"), 0), (0, ("take", "q", "y"), 0)),

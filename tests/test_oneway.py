@@ -99,6 +99,13 @@ class OneWay(Case):
             views = tuple(sorted((states, (hold,)) for hold in ((), ("u", "x", 0), ("v", "y", 0))))
             self.gives(False, is_one_way_paper, TALKERS, ("closed", views), start=BOTH_WAYS)
         self.gives(False, is_one_way_paper, TALKERS, ("closed", ()), start=BOTH_WAYS)
+        still = make_network(("p", "q"), p=make_machine(1), q=make_machine(1))
+        start = configuration_with(still, {("p", "q"): ("x",), ("q", "p"): ("y",)})
+        for holds in ([("p", "x", 1)], [("q", "y", 1)], [("p", "x", 1), ("q", "y", 1)],
+                      [(), ("p", "x", 1), ("q", "y", 1)]):
+            views = tuple(((0, 0), (hold,)) for hold in holds)
+            self.gives(False, is_one_way_paper, still, ("closed", views), start=start)
+        self.gives(True, is_one_way_paper, still, ("closed", (((0, 0), ((),)),)))
         # The start is crossed, so nothing is searched, however many views there would be.
         start = configuration_with(sizes.MEET_2001, {("p", "q"): ("x",), ("q", "p"): ("x",)})
         for function, wanted in zip(SEARCHES, (False, (), ("crossing", ()), ((), {}))):
@@ -287,6 +294,8 @@ class Papers(Case):
         odd = ((1, 1), (("p", "z", 0),))
         self.gives(True, is_nearest_paper, MEET, (paper[0], {**paper[1], odd: 0}))
         self.gives(True, is_nearest_paper, MEET, (paper[0], {**paper[1], odd: 99}))
+        self.gives(False, is_nearest_paper, MEET, (paper[0], {**paper[1], odd: -1}))
+        self.gives(False, is_nearest_paper, MEET, (paper[0], {**paper[1], odd: True}))
         # This one is exposed, so 0 is too little.
         odd = ((1, 0), (("p", "z", 0),))
         self.gives(False, is_nearest_paper, MEET, (paper[0], {**paper[1], odd: 0}))

@@ -199,6 +199,17 @@ class Papers(Case):
             self.gives(False, is_reach_paper, network, asked, ("closed", list(value[1])), start=start)
         self.assertGreater(accepted, 20)
 
+    def test_counts(self):
+        asked = configuration_with(CALL, a=1)
+        counted = reach_paper(CALL, asked)[1]
+        for counts, wanted in (((0, 0), True), ((10 ** 39, 7), True), ((-1, 0), False), ((0, -(10 ** 39)), False),
+                               ((True, 0), False), ((0,), False), ((0, 0, 0), False), ([0, 0], False)):
+            odd = (((1, 1), (("a", "odd", 0),)), counts)
+            if type(counts) is tuple:
+                value = ("closed", tuple(sorted(counted + (odd,))))
+                self.gives(wanted, is_reach_paper, CALL, asked, value)
+            self.gives(False, is_reach_paper, CALL, asked, ("closed", (odd,)))
+
     def test_runs_that_are_not_shortest(self):
         run = (("a", 0), ("b", 0), ("b", 1), ("a", 1)) * 300 + (("a", 0), ("b", 0), ("b", 1))
         self.gives(True, is_reach_paper, CALL, OK, ("run", run))

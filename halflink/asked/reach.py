@@ -51,7 +51,7 @@ class CountedWays:
         """The letters of the start that lie in a queue and may still be taken."""
         sender, taker = self._channels[place]
         for link, hold in zip(self._network[1], view[1]):
-            if hold != () and hold[0] == sender and taker in link and hold[2] > 0:
+            if hold != () and hold[0] == sender and taker in link:
                 queue = self.start[1][place]
                 return queue[len(queue) - hold[2]:]
         return ()
