@@ -161,6 +161,15 @@ class Alike(Case):
         self.gives(True, is_likeness, Q, LOUD, (((), (1,)), ((0,), (0,)), ((1,), (1,))))
         self.gives(False, is_likeness, Q, LOUD, (((), (0,)), ((0,), (0,)), ((1,), (1,))))
 
+    def test_steps_lead_out_of_no_set(self):
+        machine = make_machine(3, (0, ("step",), 1), (1, ("step",), 2))
+        self.gives((((0, 1, 2), (0, 1, 2)),), likeness_of, machine, machine)
+        for more, wanted in (((1, 2), True), ((2,), True), ((), True), ((0,), False), ((1,), False), ((0, 1), False),
+                             ((0, 2), False), ((2, 1), False), ((1, 2, 2), False)):
+            for pair in ((more, (2,)), ((2,), more), (more, more)):
+                value = tuple(sorted((pair, ((0, 1, 2), (0, 1, 2)))))
+                self.gives(wanted, is_likeness, machine, machine, value)
+
     def test_every_spoiled_part(self):
         for first, second in PAIRS[:6] + PAIRS[-6:]:
             found = likeness_of(first, second) or (((0,), (0,)),)
