@@ -237,6 +237,15 @@ class Papers(Case):
         self.gives(True, is_load_paper, other, ("unbounded", (("c", 0), ("d", 0)), (("c", 1), ("c", 0))))
         self.gives(True, is_load_paper, other, ("unbounded", (), (("c", 1),)))
 
+    def test_acts_from_a_view_to_itself(self):
+        # The post leads from the held view to itself, so its number would have to be greater than itself.
+        views = plain.views(FLOW, spec.first(FLOW))
+        for many in (0, 1, 5):
+            value = ("bounded", {view: many for view in views}, (("c", 0),) * many)
+            self.gives(False, is_load_paper, FLOW, value)
+            self.gives(False, is_load_paper, FLOW, value, weights=(1, 0))
+            self.gives(many == 0, is_load_paper, FLOW, value, weights=(0, 7))
+
     def test_loops_that_empty_a_queue(self):
         # The load grows, but a queue with a letter before the loop is empty behind it.
         network = make_network(("c", "d"), ("c", "e"), c=make_machine(1, (0, ("send", "e", "x"), 0)), e=NONE,
