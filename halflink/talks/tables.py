@@ -45,27 +45,8 @@ def table_of_words(words):
     return table
 
 
-def table_of_both(one, other):
-    """The table of the words that can be read in both tables."""
-    numbers = {(0, 0): 0}
-    pairs = [(0, 0)]
-    table = []
-    while len(table) < len(pairs):
-        here, there = pairs[len(table)]
-        row = {}
-        for sign in one[here]:
-            if sign in other[there]:
-                behind = (one[here][sign], other[there][sign])
-                if behind not in numbers:
-                    numbers[behind] = len(pairs)
-                    pairs.append(behind)
-                row[sign] = numbers[behind]
-        table.append(row)
-    return table
-
-
-def table_of_either(one, other):
-    """The table of the words that can be read in at least one of the tables."""
+def joined_table(one, other, either):
+    """The table of the words that can be read in both tables, or in at least one of them."""
     # Behind a word that cannot be read in a table stands None.
     numbers = {(0, 0): 0}
     pairs = [(0, 0)]
@@ -76,11 +57,12 @@ def table_of_either(one, other):
         far = {} if there is None else other[there]
         row = {}
         for sign in signs_of_both(near, far):
-            behind = (near.get(sign), far.get(sign))
-            if behind not in numbers:
-                numbers[behind] = len(pairs)
-                pairs.append(behind)
-            row[sign] = numbers[behind]
+            if either or (sign in near and sign in far):
+                behind = (near.get(sign), far.get(sign))
+                if behind not in numbers:
+                    numbers[behind] = len(pairs)
+                    pairs.append(behind)
+                row[sign] = numbers[behind]
         table.append(row)
     return table
 

@@ -3,8 +3,8 @@
 from halflink.errors import InvalidNumber, InvalidOperation, InvalidWord, TooMany
 from halflink.machines.machines import MAX_STATES, MAX_TRANSITIONS
 from halflink.talks.tables import (
-    are_rows, are_within, careful_table, least_rows, mirrored_table, rows_behind, table_of_both, table_of_either,
-    table_of_machine, table_of_rows, table_of_words,
+    are_rows, are_within, careful_table, joined_table, least_rows, mirrored_table, rows_behind, table_of_machine,
+    table_of_rows, table_of_words,
 )
 from halflink.talks.words import check_single, is_word
 from halflink.values import is_name, is_whole_from
@@ -105,11 +105,11 @@ class Talk:
 
     def __and__(self, other):
         check_talk(other)
-        return Talk(least_rows(table_of_both(self._table, other._table), self.LIMIT))
+        return Talk(least_rows(joined_table(self._table, other._table, False), self.LIMIT))
 
     def __or__(self, other):
         check_talk(other)
-        return Talk(least_rows(table_of_either(self._table, other._table), self.LIMIT))
+        return Talk(least_rows(joined_table(self._table, other._table, True), self.LIMIT))
 
     def __neg__(self):
         return Talk(rows_behind(mirrored_table(self._table), list(range(len(self._table))), 0))
