@@ -5,6 +5,7 @@ import inspect
 import unittest
 
 from halflink.asked.reach import quiet_rows, reached_rows
+from halflink.engine.within import configurations_within
 from halflink.networks.configurations import first_configuration
 from halflink.runs.runs import all_runs, possible_moves
 from halflink.views.oneway import view_numbers
@@ -91,12 +92,24 @@ FUNCTIONS = {
         "likeness_of(first, second)", "is_likeness(first, second, value)", "mirror_machine(word, other)",
         "telling_surrounding(first, second)", "is_telling(first, second, value)",
     ),
+    "halflink.branches.branches": (
+        "branch_run(network, one, other, word)", "is_branch_run(network, one, other, word, value)",
+    ),
+    "halflink.branches.replaced": (
+        "with_branch(network, one, other, machine)", "rest_of(network, one, other, configuration)",
+        "fits_branch(network, one, other, machine)", "carried_run(network, one, other, run, target)",
+        "is_carried(network, one, other, run, target, value)",
+    ),
+    "halflink.engine.within": (
+        "configurations_within(network, *, capacity=1, most=None, start=None)", "quiet_paper(network, row)",
+        "is_quiet_paper(network, row, value)",
+    ),
 }
 
 GENERATORS = (
     (possible_moves, (CALL, first_configuration(CALL)), {}), (all_runs, (CALL,), {"length": 3}),
     (possible_acts, (CALL, first_view(CALL)), {}), (view_numbers, (CALL,), {}), (quiet_rows, (CALL,), {}),
-    (reached_rows, (CALL,), {}), (Talk.of(A).words, (), {}),
+    (reached_rows, (CALL,), {}), (Talk.of(A).words, (), {}), (configurations_within, (CALL,), {}),
 )
 
 CONSTANTS = (
@@ -119,6 +132,28 @@ TALK_METHODS = {
 TALK_CLASS_METHODS = {
     "of": "(machine)", "careful_of": "(machine)", "from_words": "(*words)", "by_words": "(words)",
     "from_rows": "(rows)",
+}
+
+
+# The classes of later stages: methods, class methods, properties and the words of operators, all in the class itself.
+CLASSES = {
+    ("halflink.branches.branches", "Branch"): (
+        {"is_risky": "(word)", "careful": "()", "machine": "(other)"}, {"over": "(network, one, other)"},
+        ("names", "root", "first_risk"), ("str",)),
+    ("halflink.engine.schedulers", "Scheduler"): ({"__call__": "(moves)"}, {}, (), ("str",)),
+    ("halflink.engine.schedulers", "Last"): ({"__call__": "(moves)"}, {}, (), ("str",)),
+    ("halflink.engine.schedulers", "Turns"): ({"__call__": "(moves)", "__init__": "()"}, {}, (), ("str",)),
+    ("halflink.engine.schedulers", "Quiet"): ({"__call__": "(moves)", "__init__": "(network)"}, {}, (), ("str",)),
+    ("halflink.engine.schedulers", "QuietTurns"): ({"__call__": "(moves)", "__init__": "(network)"}, {}, (), ("str",)),
+    ("halflink.engine.schedulers", "Named"): (
+        {"__call__": "(moves)", "__init__": "(*names)"}, {"by": "(names)"}, (), ("str",)),
+    ("halflink.engine.schedulers", "Alternating"): (
+        {"__call__": "(moves)", "__init__": "(one, two)"}, {}, (), ("str",)),
+}
+
+BASES = {
+    "Branch": ("Talk",), "Last": ("Scheduler",), "Turns": ("Scheduler",), "Quiet": ("Scheduler",),
+    "QuietTurns": ("Quiet", "Turns", "Scheduler"), "Named": ("Scheduler",), "Alternating": ("Scheduler",),
 }
 
 
@@ -191,6 +226,23 @@ class Interface(unittest.TestCase):
             self.assertTrue(inspect.isfunction(vars(talk)[name]), name)
         for name in ("rows", "signs", "is_careful"):
             self.assertIs(type(vars(talk)[name]), property)
+
+    def test_classes(self):
+        for (name, word), (methods, class_methods, properties, words) in CLASSES.items():
+            found = getattr(importlib.import_module(name), word)
+            self.assertTrue(inspect.isclass(found))
+            self.assertEqual((found.__module__, found.__name__), (name, word))
+            for method, signature in methods.items():
+                self.assertTrue(inspect.isfunction(vars(found)[method]), (word, method))
+                self.assertEqual(parameters(vars(found)[method])[1:], written(signature), (word, method))
+            for method, signature in class_methods.items():
+                self.assertIs(type(vars(found)[method]), classmethod, (word, method))
+                self.assertEqual(parameters(getattr(found, method)), written(signature), (word, method))
+            for method in properties:
+                self.assertIs(type(vars(found)[method]), property, (word, method))
+            for method in words:
+                self.assertTrue(inspect.isfunction(vars(found)[f"__{method}__"]), (word, method))
+            self.assertLessEqual(set(BASES.get(word, ())), {base.__name__ for base in found.__mro__[1:]}, word)
 
     def test_errors(self):
         errors = importlib.import_module("halflink.errors")

@@ -148,6 +148,16 @@ class Language(unittest.TestCase):
                 if isinstance(part, (ast.For, ast.comprehension)):
                     self.assertNotIsInstance(part.iter, (ast.Set, ast.SetComp), where)
 
+    def test_lambdas(self):
+        # Two with parameters of the same names do not stand on one line.
+        for path, tree in trees():
+            seen = set()
+            for part in ast.walk(tree):
+                if isinstance(part, ast.Lambda):
+                    key = (part.lineno, tuple(given.arg for given in part.args.args))
+                    self.assertNotIn(key, seen, f"{path} {part.lineno}")
+                    seen.add(key)
+
     def test_calls(self):
         own = {part.name for _, tree in trees() for part in ast.walk(tree) if isinstance(part, ast.FunctionDef)}
         for path, tree in trees():

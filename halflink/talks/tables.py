@@ -98,12 +98,12 @@ def are_within(one, other):
     return True
 
 
-def classes_by_signs(table):
-    """A number for each place, the same one for places where the same signs can be read."""
+def classes_by_signs(table, marks):
+    """A number for each place, the same one for places with the same mark where the same signs can be read."""
     numbers = {}
     classes = []
-    for row in table:
-        key = tuple(sorted(list(row)))
+    for row, mark in zip(table, marks):
+        key = (mark, *sorted(list(row)))
         if key not in numbers:
             numbers[key] = len(numbers)
         classes.append(numbers[key])
@@ -119,14 +119,14 @@ def places_before(behind):
     return before
 
 
-def classes_of(table, limit):
-    """A number for each place, the same one for places from which the same words can be read.
+def classes_of(table, marks, limit):
+    """A number for each place, the same one for places from which the same words can be read, to the same marks.
 
     All places must be reached if there are more of them than the limit; an error is raised for more classes than that.
     """
     behind = [[row[sign] for sign in sorted(list(row))] for row in table]
     before = places_before(behind)
-    classes = list(classes_by_signs(table))
+    classes = list(classes_by_signs(table, marks))
     sizes = [0 for _ in table]
     for number in classes:
         sizes[number] = sizes[number] + 1
@@ -159,33 +159,64 @@ def classes_of(table, limit):
     return classes
 
 
-def rows_behind(table, classes, first):
-    """The rows of the talk of all words that can be read from a place, in a table whose places have such classes."""
-    places = {number: place for place, number in enumerate(classes)}
-    numbers = {classes[first]: 0}
-    found = [classes[first]]
-    rows = []
-    while len(rows) < len(found):
-        own = table[places[found[len(rows)]]]
-        row = []
-        for sign in sorted(list(own)):
-            behind = classes[own[sign]]
-            if behind not in numbers:
-                numbers[behind] = len(found)
+def ordered_places(table, classes, first):
+    """A place of each class that is read from the first place, in the order of the smallest words that lead there."""
+    met = {classes[first]: True}
+    found = [first]
+    done = 0
+    while done < len(found):
+        row = table[found[done]]
+        for sign in sorted(list(row)):
+            behind = row[sign]
+            if classes[behind] not in met:
+                met[classes[behind]] = True
                 found.append(behind)
-            row.append((sign, numbers[behind]))
-        rows.append(tuple(row))
-    return tuple(rows)
+        done = done + 1
+    return found
+
+
+def rows_behind(table, classes, places):
+    """The rows of the talk of all words that can be read from the first of these places, one of each class."""
+    numbers = {classes[place]: number for number, place in enumerate(places)}
+    return tuple([
+        tuple([(sign, numbers[classes[table[place][sign]]]) for sign in sorted(list(table[place]))])
+        for place in places
+    ])
+
+
+def rows_from(table, first):
+    """The rows of the talk of all words that can be read from a place, in a table without places that are alike."""
+    classes = list(range(len(table)))
+    return rows_behind(table, classes, ordered_places(table, classes, first))
 
 
 def least_rows(table, limit):
     """The rows of the talk of a table; raise the error that is due if there are more than the limit."""
-    return rows_behind(table, classes_of(table, limit), 0)
+    classes = classes_of(table, [False for _ in table], limit)
+    return rows_behind(table, classes, ordered_places(table, classes, 0))
+
+
+def marked_rows(table, marks):
+    """The rows of a table in which places with different marks are not put together, and the numbers of marked rows."""
+    classes = classes_of(table, marks, len(table))
+    places = ordered_places(table, classes, 0)
+    numbers = [number for number, place in enumerate(places) if marks[place]]
+    return (rows_behind(table, classes, places), tuple(numbers))
 
 
 def table_of_rows(rows):
     """The table that has the words of these rows."""
     return [{sign: number for sign, number in row} for row in rows]
+
+
+def place_behind(table, word):
+    """The place behind a word, or None if it cannot be read."""
+    place = 0
+    for sign in word:
+        if sign not in table[place]:
+            return None
+        place = table[place][sign]
+    return place
 
 
 def are_rows(value, limit):

@@ -3,8 +3,8 @@
 from halflink.errors import InvalidNumber, InvalidOperation, InvalidWord, TooMany
 from halflink.machines.machines import MAX_STATES, MAX_TRANSITIONS
 from halflink.talks.tables import (
-    are_rows, are_within, careful_table, joined_table, least_rows, mirrored_table, rows_behind, table_of_machine,
-    table_of_rows, table_of_words,
+    are_rows, are_within, careful_table, joined_table, least_rows, mirrored_table, place_behind, rows_from,
+    table_of_machine, table_of_rows, table_of_words,
 )
 from halflink.talks.words import check_single, is_word
 from halflink.values import is_name, is_whole_from
@@ -73,14 +73,7 @@ class Talk:
 
     def _place(self, word):
         """The number of the residual behind a word, or None if the value is not a word of the talk."""
-        if not is_word(word):
-            return None
-        place = 0
-        for sign in word:
-            if sign not in self._table[place]:
-                return None
-            place = self._table[place][sign]
-        return place
+        return place_behind(self._table, word) if is_word(word) else None
 
     def __contains__(self, value):
         return self._place(value) is not None
@@ -90,7 +83,7 @@ class Talk:
         place = self._place(word)
         if place is None:
             raise InvalidWord("not a word of the talk")
-        return Talk(rows_behind(self._table, list(range(len(self._table))), place))
+        return Talk(rows_from(self._table, place))
 
     def __getitem__(self, number):
         if not is_whole_from(number, 0, MAX_NUMBER):
@@ -112,7 +105,7 @@ class Talk:
         return Talk(least_rows(joined_table(self._table, other._table, True), self.LIMIT))
 
     def __neg__(self):
-        return Talk(rows_behind(mirrored_table(self._table), list(range(len(self._table))), 0))
+        return Talk(rows_from(mirrored_table(self._table), 0))
 
     def is_within(self, other):
         """Whether all words of this talk are words of the other one."""

@@ -128,6 +128,23 @@ def explored(source, limit):
 
 def least_weights(ways, first):
     """The least weight of a path to each node, and the node and the act before it on such a path."""
+    numbers, before, _ = weighed(lambda node: ways[node], first, is_last)
+    return (numbers, before)
+
+
+def is_last(_):
+    """Whether a search ends at a node; one that goes to all nodes does not end at any."""
+    return False
+
+
+def nearest_path(ways_from, first, is_wanted):
+    """A path of least weight from the first node to one that is wanted, or None."""
+    _, before, found = weighed(ways_from, first, is_wanted)
+    return None if found is None else path_to(before, found)
+
+
+def weighed(ways_from, first, is_wanted):
+    """The least weights, and the nodes and acts before, up to a nearest wanted node, and this node or None."""
     numbers = {first: 0}
     before = {}
     number = 0
@@ -137,7 +154,9 @@ def least_weights(ways, first):
             # A node that was found again with a smaller weight was gone on from already.
             if numbers[node] < number:
                 continue
-            for act, behind in ways[node]:
+            if is_wanted(node):
+                return (numbers, before, node)
+            for act, behind in ways_from(node):
                 weight = weight_of_act(act)
                 if behind not in numbers or numbers[behind] > number + weight:
                     numbers[behind] = number + weight
@@ -148,7 +167,7 @@ def least_weights(ways, first):
                         later.append(behind)
         now, soon, later = soon, later, []
         number += 1
-    return (numbers, before)
+    return (numbers, before, None)
 
 
 def path_to(before, node):

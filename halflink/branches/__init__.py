@@ -1,0 +1,1 @@
+"""Branches of a network, and networks in which they are replaced."""

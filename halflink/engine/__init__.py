@@ -1,0 +1,1 @@
+"""Runs within bounds, and schedulers that choose their moves."""
