@@ -104,6 +104,12 @@ FUNCTIONS = {
         "configurations_within(network, *, capacity=1, most=None, start=None)", "quiet_paper(network, row)",
         "is_quiet_paper(network, row, value)",
     ),
+    "halflink.text.formats": (
+        "format_word(word)", "parse_word(text)", "format_moves(moves)", "parse_moves(text)", "format_machine(machine)",
+        "parse_machine(text)", "format_network(network)", "parse_network(text)",
+        "format_configuration(network, configuration)", "parse_configuration(network, text)",
+    ),
+    "halflink.text.tables": ("transition_table(machine)", "count_table(talk, longest)"),
 }
 
 GENERATORS = (
@@ -149,11 +155,28 @@ CLASSES = {
         {"__call__": "(moves)", "__init__": "(*names)"}, {"by": "(names)"}, (), ("str",)),
     ("halflink.engine.schedulers", "Alternating"): (
         {"__call__": "(moves)", "__init__": "(one, two)"}, {}, (), ("str",)),
+    ("halflink.engine.engine", "Engine"): (
+        {"__init__": "(network, *, capacity=1, most=None, start=None)", "change": "(*, capacity, most)",
+         "do": "(*moves)", "do_all": "(moves)", "go": "(scheduler, *, steps=1)", "back": "(many=1)"}, {},
+        ("now", "done_moves", "next_moves", "capacity", "most"),
+        ("contains", "bool", "getitem", "len", "str", "eq")),
+    ("halflink.desk.desk", "Desk"): (
+        {"__init__": "(network, *, start=None)", "perform": "(*operations)", "perform_all": "(operations)",
+         "undo": "(many=1)", "redo": "(many=1)", "log": "()", "crossing_run": "()", "reach_paper": "(configuration)",
+         "end_paper": "()", "queue_bounds": "()", "view_count": "()", "is_unseen": "(name, machine, state)"},
+        {"replayed": "(network, groups, *, start=None)"}, ("network", "now", "crossed", "done"),
+        ("contains", "getitem", "len", "str", "eq")),
+    ("halflink.desk.desk", "GuardedDesk"): (
+        {"__init__": "(network, *, start=None)", "perform": "(*operations)", "perform_all": "(operations)",
+         "undo": "(many=1)", "redo": "(many=1)"}, {"replayed": "(network, groups, *, start=None)"}, (), ()),
+    ("halflink.text.shell", "Shell"): (
+        {"__init__": "()", "answer": "(command)", "answer_all": "(commands)", "desk": "()"}, {}, (), ("len", "str")),
 }
 
 BASES = {
     "Branch": ("Talk",), "Last": ("Scheduler",), "Turns": ("Scheduler",), "Quiet": ("Scheduler",),
     "QuietTurns": ("Quiet", "Turns", "Scheduler"), "Named": ("Scheduler",), "Alternating": ("Scheduler",),
+    "GuardedDesk": ("Desk",),
 }
 
 
@@ -243,6 +266,15 @@ class Interface(unittest.TestCase):
             for method in words:
                 self.assertTrue(inspect.isfunction(vars(found)[f"__{method}__"]), (word, method))
             self.assertLessEqual(set(BASES.get(word, ())), {base.__name__ for base in found.__mro__[1:]}, word)
+
+    def test_values_of_classes(self):
+        shell = importlib.import_module("halflink.text.shell").Shell
+        self.assertEqual(type(vars(shell)["WORDS"]), tuple)
+        self.assertEqual(shell.WORDS, ("add", "bounds", "crossing", "do", "drop", "end", "join", "load", "moves", "now",
+                                       "part", "redo", "undo", "words"))
+        engine = importlib.import_module("halflink.engine.engine").Engine
+        for name in ("capacity", "most"):
+            self.assertIsNotNone(vars(engine)[name].fset)
 
     def test_errors(self):
         errors = importlib.import_module("halflink.errors")

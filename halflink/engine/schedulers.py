@@ -2,19 +2,11 @@
 
 from halflink.errors import InvalidOperation
 from halflink.networks.networks import check_network
-from halflink.machines.machines import MAX_TRANSITIONS
-from halflink.values import are_names, is_ascending, is_name, is_row, is_whole_from
+from halflink.runs.runs import are_moves
+from halflink.values import are_names, is_ascending
 
 # Letters that lie there are taken before anything else is done, and sent only if nothing else can be done.
 QUIET_WORDS = ("take", "step", "send")
-
-
-def are_moves(value):
-    """Whether the value is a tuple of pairs of a name and an index that some transition can have."""
-    return isinstance(value, tuple) and all([
-        is_row(move, 2) and is_name(move[0]) and is_whole_from(move[1], 0, MAX_TRANSITIONS - 1)
-        for move in value
-    ])
 
 
 def check_choice(moves):

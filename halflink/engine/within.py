@@ -5,7 +5,7 @@ from halflink.errors import InvalidNumber, InvalidOperation, TooMany
 from halflink.networks.configurations import are_states_of, first_in, start_in
 from halflink.networks.networks import channels_in, check_network
 from halflink.runs.runs import behind_step_of, configurations_behind, found_step, is_run_from
-from halflink.values import is_row, is_whole_from
+from halflink.values import is_row, is_whole, is_whole_from
 from halflink.views.ways import ViewWays, are_closed, explored
 
 MAX_CAPACITY = 20
@@ -68,6 +68,14 @@ def ways_within(table, configuration, capacity, most):
             if behind is not None and is_within(behind, capacity, most):
                 found.append((move, behind))
     return found
+
+
+def behind_within(steps, configuration, value, capacity, most):
+    """The configuration behind a move, or None if the value is no possible move to one within the bounds."""
+    if not is_row(value, 2) or not isinstance(value[0], str) or not is_whole(value[1]) or value not in steps:
+        return None
+    behind = behind_step_of(configuration, steps[value])
+    return behind if behind is not None and is_within(behind, capacity, most) else None
 
 
 def configurations_within(network, *, capacity=1, most=None, start=None):

@@ -3,11 +3,20 @@
 from collections import deque
 
 from halflink.errors import InvalidNumber, InvalidOperation, InvalidRun
+from halflink.machines.machines import MAX_TRANSITIONS
 from halflink.networks.configurations import check_configuration, crossed_in, start_in
 from halflink.networks.networks import channels_in, check_network
-from halflink.values import is_whole, is_whole_from
+from halflink.values import is_name, is_row, is_whole, is_whole_from
 
 MAX_LENGTH = 60
+
+
+def are_moves(value):
+    """Whether the value is a tuple of moves that some network can have."""
+    return isinstance(value, tuple) and all([
+        is_row(move, 2) and is_name(move[0]) and is_whole_from(move[1], 0, MAX_TRANSITIONS - 1)
+        for move in value
+    ])
 
 
 def found_transition(network, name, index):

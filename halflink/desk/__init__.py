@@ -1,0 +1,1 @@
+"""Desks: networks with a live configuration, which are edited and moved."""

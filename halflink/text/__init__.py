@@ -1,0 +1,1 @@
+"""Texts of values, tables, and a shell of commands."""
