@@ -1,13 +1,18 @@
-"""Loads: how many letters can lie in the queues, each counted with the weight of its channel."""
+"""Loads: how many letters can lie in the queues, each counted with the weight of its channel.
+
+The load of the whole is the sum of the loads of its parts.
+"""
 
 from halflink.errors import InvalidOperation
 from halflink.networks.configurations import check_configuration, crossed_in
 from halflink.networks.networks import channels_in, check_network
 from halflink.runs.runs import behind_moves, found_step, is_run_from
 from halflink.values import is_row, is_whole, is_whole_from
-from halflink.views.oneway import one_way_views
-from halflink.views.views import run_in_acts, short_start
-from halflink.views.ways import ViewWays, are_closed, components, least_weights, path_to
+from halflink.views.graphs import components, least_weights, path_to
+from halflink.views.oneway import one_way_parts
+from halflink.views.parts import joined_run, numbered_rows
+from halflink.views.views import linked_at, run_in_acts, short_start
+from halflink.views.ways import ViewWays
 
 MAX_WEIGHT = 1000
 
@@ -34,111 +39,133 @@ def load_of(network, configuration, *, weights=None):
     return load_in(configuration, weights_in(network, weights))
 
 
-class Gains:
-    """How much each act adds to the load."""
-
-    def __init__(self, network, weights):
-        self._gains = {}
-        channels = channels_in(network)
-        for name, machine in network[0]:
-            for index, _ in enumerate(machine[2]):
+def gains_of(network, weights):
+    """How much each post and each take adds to the load, under these acts; all other acts add nothing."""
+    gains = {}
+    channels = channels_in(network)
+    for name, machine in network[0]:
+        for index, transition in enumerate(machine[2]):
+            if transition[1][0] != "step":
                 _, _, _, word, place, _ = found_step(network, channels, name, index)
-                if word != "step":
-                    self._gains[name, index] = weights[place] if word == "send" else -weights[place]
-
-    def of_act(self, act):
-        """What the act adds; the letter of a hand is taken at once."""
-        return self._gains[act[1], act[2]] if act[0] in ("post", "take") else 0
+                if word == "send":
+                    gains["post", name, index] = weights[place]
+                else:
+                    gains["take", name, index] = -weights[place]
+    return gains
 
 
 def growing_way(ways, places, gains):
-    """A view, an act that adds to the load, and the view behind it, from which ways lead back; or None."""
-    for view in ways:
-        for act, behind in ways[view]:
-            if places[view] == places[behind] and gains.of_act(act) > 0:
-                return (view, act, behind)
+    """A node, an act that adds to the load, and the node behind it, from which ways lead back; or None."""
+    for node, row in enumerate(ways):
+        for act, behind in row:
+            if gains.get(act, 0) > 0 and places[node] == places[behind]:
+                return (node, act, behind)
     return None
 
 
-def growing_paper(ways, first, found):
+def growing_paper(ways, found):
     """The load paper with a way that adds to the load and can be gone again and again."""
-    view, act, behind = found
-    _, before = least_weights(ways, first)
+    node, act, behind = found
+    _, before = least_weights(ways, 0)
     _, back = least_weights(ways, behind)
-    return ("unbounded", run_in_acts(path_to(before, view)), run_in_acts((act,) + path_to(back, view)))
+    return ("unbounded", run_in_acts(path_to(before, node)), run_in_acts((act,) + path_to(back, node)))
 
 
 def greatest_numbers(ways, places, gains, begun):
-    """The greatest load behind any path to each view, where no way can be gone again and again to add to it."""
-    # Between views from which ways lead to one another, nothing is added, so all of them have the same number. The
-    # place of the first view is 0.
-    best = {0: begun}
-    for place, view in sorted([(places[node], node) for node in ways]):
-        for act, behind in ways[view]:
-            number = best[place] + gains.of_act(act)
-            if places[behind] not in best or best[places[behind]] < number:
-                best[places[behind]] = number
-    return {view: best[places[view]] for view in sorted(list(ways))}
+    """The greatest load behind any path to each node, where no way can be gone again and again to add to it."""
+    # Between nodes from which ways lead to one another, nothing is added, so all of them have the same number. The
+    # place of the first node is 0.
+    best = [None for _ in ways]
+    best[0] = begun
+    for place, node in sorted([(place, node) for node, place in enumerate(places)]):
+        for act, behind in ways[node]:
+            number = best[place] + gains.get(act, 0)
+            there = places[behind]
+            if best[there] is None or best[there] < number:
+                best[there] = number
+    return [best[place] for place in places]
 
 
-def bounded_paper(ways, first, numbers, gains):
-    """The load paper with the greatest numbers, and a run that reaches the greatest of them."""
+def greatest_run(part, numbers, gains):
+    """A run of a part that reaches the greatest of the numbers of its rows."""
     # Along these ways, the load is as great as it can be.
-    full = {
-        view: [(act, behind) for act, behind in ways[view] if numbers[behind] == numbers[view] + gains.of_act(act)]
-        for view in ways
-    }
-    _, before = least_weights(full, first)
-    return ("bounded", numbers, run_in_acts(path_to(before, max(numbers, key=lambda view: numbers[view]))))
+    full = [
+        [(act, behind) for act, behind in row if numbers[behind] == numbers[node] + gains.get(act, 0)]
+        for node, row in enumerate(part.ways)
+    ]
+    _, before = least_weights(full, 0)
+    greatest = max(numbers)
+    _, node = min([(part.all_rows[node], node) for node, number in enumerate(numbers) if number == greatest])
+    return run_in_acts(path_to(before, node))
 
 
-def paper_in(network, views, weights):
-    """Any load paper, for the source of the views and all ways between them."""
-    source, ways, places = views
-    gains = Gains(network, weights)
-    found = growing_way(ways, places, gains)
-    if found is not None:
-        return growing_paper(ways, source.first, found)
-    numbers = greatest_numbers(ways, places, gains, load_in(source.start, weights))
-    return bounded_paper(ways, source.first, numbers, gains)
+def placed_parts(network, start):
+    """The source of the views, and the parts, each with the places of its rows in an order along its ways."""
+    source, parts = one_way_parts(network, start)
+    return (source, [(part, components(part.ways)) for part in parts])
 
 
-def placed_views(network, start):
-    """The source of the views, all ways between them, and the places of the views in an order along these ways."""
-    source, ways = one_way_views(network, start)
-    return (source, ways, components(ways, source.first))
+def loads_of_start(network, start, weights, places):
+    """The load of the start over the links with some places."""
+    many = len(network[0])
+    loads = [
+        weight * len(queue)
+        for channel, weight, queue in zip(channels_in(network), weights, start[1])
+        if many + linked_at(network, channel[0], channel[1]) in places
+    ]
+    return sum(loads)
 
 
-def greatest_in(network, views, weights):
-    """The greatest load, or None, for the source of the views and all ways between them."""
-    source, ways, places = views
-    gains = Gains(network, weights)
-    if growing_way(ways, places, gains) is not None:
-        return None
-    return max(list(greatest_numbers(ways, places, gains, load_in(source.start, weights)).values()))
+def numbers_of_parts(network, source, placed, weights):
+    """For each part, the greatest loads of its rows; or None if the load of a part has no bound."""
+    gains = gains_of(network, weights)
+    found = []
+    for part, places in placed:
+        if growing_way(part.ways, places, gains) is not None:
+            return None
+        begun = loads_of_start(network, source.start, weights, part.places)
+        found.append(greatest_numbers(part.ways, places, gains, begun))
+    return found
 
 
 def load_paper(network, *, weights=None, start=None):
     """Any load paper."""
     check_network(network)
     given = weights_in(network, weights)
-    return paper_in(network, placed_views(network, start), given)
+    source, placed = placed_parts(network, start)
+    gains = gains_of(network, given)
+    for part, places in placed:
+        growing = growing_way(part.ways, places, gains)
+        if growing is not None:
+            return growing_paper(part.ways, growing)
+    parts = [part for part, _ in placed]
+    numbers = numbers_of_parts(network, source, placed, given)
+    rows = sorted([(row, number) for number, row in numbered_rows(parts, numbers)])
+    run = joined_run([greatest_run(part, own, gains) for part, own in zip(parts, numbers)])
+    return ("bounded", {source.view_of(row): number for row, number in rows}, run)
+
+
+def greatest_in(network, source, placed, weights):
+    """The greatest load, or None, for the source of the views and its parts."""
+    numbers = numbers_of_parts(network, source, placed, weights)
+    return None if numbers is None else sum([max(own) for own in numbers])
 
 
 def greatest_load(network, *, weights=None, start=None):
     """The greatest load of all configurations that runs lead to, or None if there is none."""
     check_network(network)
     given = weights_in(network, weights)
-    return greatest_in(network, placed_views(network, start), given)
+    source, placed = placed_parts(network, start)
+    return greatest_in(network, source, placed, given)
 
 
 def queue_bounds(network, *, start=None):
     """The greatest length of each queue, or None for one without a bound, in the order of the channels."""
     check_network(network)
-    views = placed_views(network, start)
-    places = range(2 * len(network[1]))
-    rows = [tuple([1 if at == place else 0 for at in places]) for place in places]
-    return tuple([greatest_in(network, views, weights) for weights in rows])
+    source, placed = placed_parts(network, start)
+    channels = range(2 * len(network[1]))
+    rows = [tuple([1 if at == channel else 0 for at in channels]) for channel in channels]
+    return tuple([greatest_in(network, source, placed, weights) for weights in rows])
 
 
 def is_load_paper(network, value, *, weights=None, start=None):
@@ -150,8 +177,9 @@ def is_load_paper(network, value, *, weights=None, start=None):
         return False
     if value[0] == "unbounded":
         return is_growing(network, value[1], value[2], given, first)
-    return value[0] == "bounded" and not crossed_in(network, first) and is_bounded(
-        ViewWays(network, first), value[1], value[2], given)
+    if value[0] != "bounded" or crossed_in(network, first):
+        return False
+    return is_bounded(network, value[1], given, first) and is_greatest(network, value[2], value[1], given, first)
 
 
 def is_growing(network, run, loop, weights, start):
@@ -172,22 +200,26 @@ def is_growing(network, run, loop, weights, start):
     return True
 
 
-def is_bounded(source, numbers, run, weights):
-    """Whether the numbers, a dict, are greatest loads of closed views, the greatest of them that behind the run."""
+def is_bounded(network, numbers, weights, start):
+    """Whether the numbers, a dict, are bounds of the loads of closed views without an exposed one."""
     if not isinstance(numbers, dict) or not all([is_whole(numbers[view]) for view in numbers]):
         return False
-    # Only views can be sorted.
-    if not all([source.is_node(view) for view in numbers]) or not are_closed(source, tuple(sorted(list(numbers)))):
+    source = ViewWays(network, start)
+    found = {source.row_of(view): numbers[view] for view in numbers}
+    if None in found or source.first not in found or found[source.first] < load_in(start, weights):
         return False
-    if numbers[source.first] < load_in(source.start, weights):
-        return False
-    gains = Gains(source.network, weights)
-    for view in numbers:
-        if source.exposing_send(view) is not None:
+    gains = gains_of(network, weights)
+    for row in found:
+        if source.exposing_send(row, source.machines) is not None:
             return False
-        for act, behind in source.ways_from(view):
-            if numbers[behind] < numbers[view] + gains.of_act(act):
+        for act, behind in source.ways_from(row, source.machines):
+            if behind not in found or found[behind] < found[row] + gains.get(act, 0):
                 return False
-    if not is_run_from(source.network, run, source.start):
+    return True
+
+
+def is_greatest(network, value, numbers, weights, start):
+    """Whether the value is a run to a configuration with the greatest of the numbers as its load."""
+    if not is_run_from(network, value, start):
         return False
-    return load_in(behind_moves(source.network, run, source.start), weights) == max(list(numbers.values()))
+    return load_in(behind_moves(network, value, start), weights) == max(list(numbers.values()))

@@ -2,17 +2,61 @@
 
 All of them can be told from the states and the first letters of the queues, which a configuration and a view have. The
 first letters are a dict under the channels whose queues are not empty.
+
+A judge is a function that tells whether the machines and links at some places are wanted: True if they are, None if the
+whole is not wanted then, and False if others decide. The whole is wanted if some parts are and none is unwanted.
 """
 
 from halflink.errors import InvalidOperation
 from halflink.networks.configurations import check_configuration
-from halflink.networks.networks import channels_in, check_name, check_network
-from halflink.asked.reach import nearest_run
+from halflink.networks.networks import channels_in, check_name, check_network, names_in
 from halflink.runs.runs import frozen, walked
 from halflink.values import is_row
-from halflink.views.oneway import one_way_views
-from halflink.views.views import other_end
-from halflink.views.ways import are_closed
+from halflink.views.oneway import one_way_parts, views_in
+from halflink.views.parts import joined_run
+from halflink.views.views import linked_at, other_end
+from halflink.views.ways import are_closed, rows_in
+
+
+class Deeds:
+    """The deeds of the machines of a network in their states; machines are told by their places."""
+
+    def __init__(self, network):
+        self.machines = list(range(len(network[0])))
+        self.names = names_in(network)
+        self._finals = [machine[1] for _, machine in network[0]]
+        self._rows = [[[] for _ in range(machine[0])] for _, machine in network[0]]
+        for rows, (_, machine) in zip(self._rows, network[0]):
+            for before, deed, _ in machine[2]:
+                rows[before].append(deed)
+
+    def can_move(self, at, states, letters):
+        """Whether a machine can move."""
+        for deed in self._rows[at][states[at]]:
+            if deed[0] != "take" or letters.get((deed[1], self.names[at])) == deed[2]:
+                return True
+        return False
+
+    def are_stuck(self, machines, states, letters):
+        """Whether none of the machines can move."""
+        for at in machines:
+            if self.can_move(at, states, letters):
+                return False
+        return True
+
+    def are_finished(self, machines, states, letters):
+        """Whether the states of the machines are final and no letters lie there."""
+        return not letters and all([states[at] in self._finals[at] for at in machines])
+
+    def is_refused(self, channel, states, letters):
+        """Whether the channel refuses its first letter."""
+        sender, taker = channel
+        if channel not in letters:
+            return False
+        at = self.names.index(taker)
+        deeds = self._rows[at][states[at]]
+        takes = [deed[2] for deed in deeds if deed[:2] == ("take", sender)]
+        return deeds != [] and len(takes) == len(deeds) and letters[channel] not in takes
 
 
 def letters_in(network, configuration):
@@ -21,130 +65,155 @@ def letters_in(network, configuration):
     return {channel: queue[0] for channel, queue in pairs if queue}
 
 
-def letters_seen(network, view):
-    """The first letters of the queues in a view."""
-    pairs = zip(network[1], view[1])
-    return {(hold[0], other_end(link, hold[0])): hold[1] for link, hold in pairs if hold != ()}
+def letters_seen(network, row, places):
+    """The first letters of the queues in the row of a view, of the links among some places."""
+    many = len(network[0])
+    letters = {}
+    for at in places:
+        if at >= many and row[at] != ():
+            sender, letter, _ = row[at]
+            letters[sender, other_end(network[1][at - many], sender)] = letter
+    return letters
 
 
-def deeds_at(machine, state):
-    """The list of the deeds of a machine in a state."""
-    return [deed for before, deed, _ in machine[2] if before == state]
+def dead_judge(network):
+    """The judge of dead ends."""
+    deeds = Deeds(network)
+
+    def judge(states, letters, machines, _):
+        if not deeds.are_stuck(machines, states, letters):
+            return None
+        return not deeds.are_finished(machines, states, letters)
+
+    return judge
 
 
-def can_do(name, deed, letters):
-    """Whether the machine with this name can do a deed of its state."""
-    return deed[0] != "take" or letters.get((deed[1], name)) == deed[2]
+def finish_judge(network):
+    """The judge of finished configurations."""
+    deeds = Deeds(network)
+
+    def judge(states, letters, machines, _):
+        return True if deeds.are_finished(machines, states, letters) else None
+
+    return judge
 
 
-def movable_in(network, states, letters):
-    """The names of the machines that can move, ascending."""
-    return tuple([
-        name
-        for (name, machine), state in zip(network[0], states)
-        if any([can_do(name, deed, letters) for deed in deeds_at(machine, state)])
-    ])
+def refusal_judge(network, channel):
+    """The judge of configurations in which a channel refuses its first letter."""
+    deeds = Deeds(network)
+    link = len(network[0]) + linked_at(network, channel[0], channel[1])
+
+    def judge(states, letters, _, places):
+        if link not in places:
+            return False
+        return True if deeds.is_refused(channel, states, letters) else None
+
+    return judge
 
 
-def is_finished_in(network, states, letters):
-    """Whether all states are final and all queues are empty."""
-    return not letters and all([state in machine[1] for (_, machine), state in zip(network[0], states)])
-
-
-def is_dead_in(network, states, letters):
-    """Whether no machine can move although not all is finished."""
-    return not movable_in(network, states, letters) and not is_finished_in(network, states, letters)
-
-
-def refuses_in(network, states, letters, channel):
-    """Whether the channel refuses its first letter."""
-    sender, taker = channel
-    if channel not in letters:
-        return False
-    deeds = [
-        deed
-        for (name, machine), state in zip(network[0], states)
-        if name == taker
-        for deed in deeds_at(machine, state)
-    ]
-    takes = [deed[2] for deed in deeds if deed[:2] == ("take", sender)]
-    return deeds != [] and len(takes) == len(deeds) and letters[channel] not in takes
+def is_configuration_wanted(network, configuration, judge):
+    """Whether a configuration is wanted."""
+    places = list(range(len(network[0]) + len(network[1])))
+    machines = places[:len(network[0])]
+    return judge(configuration[0], letters_in(network, configuration), machines, places) is True
 
 
 def movable_machines(network, configuration):
     """The names of the machines that can move, ascending."""
     check_network(network)
     check_configuration(network, configuration)
-    return movable_in(network, configuration[0], letters_in(network, configuration))
+    deeds = Deeds(network)
+    letters = letters_in(network, configuration)
+    return tuple([deeds.names[at] for at in deeds.machines if deeds.can_move(at, configuration[0], letters)])
 
 
 def is_dead_end(network, configuration):
     """Whether no machine can move and the configuration is not finished."""
     check_network(network)
     check_configuration(network, configuration)
-    return is_dead_in(network, configuration[0], letters_in(network, configuration))
+    return is_configuration_wanted(network, configuration, dead_judge(network))
 
 
 def is_finished(network, configuration):
     """Whether all states are final and all queues are empty."""
     check_network(network)
     check_configuration(network, configuration)
-    return is_finished_in(network, configuration[0], letters_in(network, configuration))
+    return is_configuration_wanted(network, configuration, finish_judge(network))
 
 
 def refusing_channels(network, configuration):
     """The channels that refuse their first letter, ascending."""
     check_network(network)
     check_configuration(network, configuration)
+    deeds = Deeds(network)
     letters = letters_in(network, configuration)
-    return tuple([
-        channel
-        for channel in channels_in(network)
-        if refuses_in(network, configuration[0], letters, channel)
-    ])
+    return tuple([channel for channel in channels_in(network) if deeds.is_refused(channel, configuration[0], letters)])
 
 
-def paper_for(network, start, fits):
-    """Any paper that shows whether a run leads to a configuration whose states and first letters fit."""
-    source, ways = one_way_views(network, start)
-    wanted = [view for view in ways if fits(view[0], letters_seen(network, view))]
-    run = nearest_run(ways, source.first, wanted)
-    return ("closed", tuple(sorted(list(ways)))) if run is None else ("run", run)
+def runs_in(network, part, judge):
+    """A shortest run to rows of a part that are not unwanted, and one to rows that are wanted, or None for either."""
+    told = [
+        judge(row, letters_seen(network, row, part.places), part.machines, part.places)
+        for row in part.all_rows
+    ]
+    some = [number for number, answer in enumerate(told) if answer is not None]
+    wanted = [number for number in some if told[number]]
+    return (part.nearest(some)[0] if some else None, part.nearest(wanted)[0] if wanted else None)
 
 
-def is_paper_for(network, value, start, fits):
-    """Whether the value is a paper that shows whether a run leads to a configuration that fits."""
-    source, _ = one_way_views(network, start)
+def shortest_of(pairs):
+    """The shortest run that does one of the two runs of each part, and the second one of at least one part; or None."""
+    if None in [some for some, _ in pairs]:
+        return None
+    more = [(len(wanted) - len(some), at) for at, (some, wanted) in enumerate(pairs) if wanted is not None]
+    if not more:
+        return None
+    _, least = min(more)
+    return joined_run([wanted if at == least else some for at, (some, wanted) in enumerate(pairs)])
+
+
+def paper_for(network, start, judge):
+    """Any paper that shows whether a run leads to a configuration that is wanted, with a shortest run."""
+    source, parts = one_way_parts(network, start)
+    run = shortest_of([runs_in(network, part, judge) for part in parts])
+    return ("closed", views_in(source, parts)) if run is None else ("run", run)
+
+
+def is_paper_for(network, value, start, judge):
+    """Whether the value is a paper that shows whether a run leads to a configuration that is wanted."""
+    source, _ = one_way_parts(network, start)
     if not is_row(value, 2):
         return False
     if value[0] == "run":
-        return leads_to_fitting(network, value[1], source.start, fits)
-    if value[0] != "closed" or not are_closed(source, value[1]):
+        return leads_to_wanted(network, value[1], source.start, judge)
+    rows = rows_in(source, value[1]) if value[0] == "closed" else None
+    if rows is None or not are_closed(source, rows):
         return False
-    return not any([fits(view[0], letters_seen(network, view)) for view in value[1]])
+    places = list(range(len(source.first)))
+    for row in rows:
+        if judge(row, letters_seen(network, row, places), source.machines, places) is True:
+            return False
+    return True
 
 
-def leads_to_fitting(network, value, start, fits):
-    """Whether the value is a run that leads to a configuration that fits."""
+def leads_to_wanted(network, value, start, judge):
+    """Whether the value is a run that leads to a configuration that is wanted."""
     if not isinstance(value, tuple):
         return False
     many, states, queues = walked(network, value, start)
-    if many < len(value):
-        return False
-    behind = frozen(states, queues)
-    return fits(behind[0], letters_in(network, behind))
+    return many == len(value) and is_configuration_wanted(network, frozen(states, queues), judge)
 
 
 def end_paper(network, *, start=None):
     """Any paper that shows whether a run leads to a dead end, with a shortest run."""
     check_network(network)
-    return paper_for(network, start, lambda states, letters: is_dead_in(network, states, letters))
+    return paper_for(network, start, dead_judge(network))
 
 
 def is_end_paper(network, value, *, start=None):
     """Whether the value is an end paper."""
     check_network(network)
-    return is_paper_for(network, value, start, lambda states, letters: is_dead_in(network, states, letters))
+    return is_paper_for(network, value, start, dead_judge(network))
 
 
 def check_channel(network, sender, taker):
@@ -159,25 +228,23 @@ def refusal_paper(network, sender, taker, *, start=None):
     """Any paper that shows whether a run leads to where the channel refuses its first letter, with a shortest run."""
     check_network(network)
     check_channel(network, sender, taker)
-    channel = (sender, taker)
-    return paper_for(network, start, lambda states, letters: refuses_in(network, states, letters, channel))
+    return paper_for(network, start, refusal_judge(network, (sender, taker)))
 
 
 def is_refusal_paper(network, sender, taker, value, *, start=None):
     """Whether the value is a refusal paper of the channel."""
     check_network(network)
     check_channel(network, sender, taker)
-    channel = (sender, taker)
-    return is_paper_for(network, value, start, lambda states, letters: refuses_in(network, states, letters, channel))
+    return is_paper_for(network, value, start, refusal_judge(network, (sender, taker)))
 
 
 def finish_paper(network, *, start=None):
     """Any paper that shows whether a run leads to a finished configuration, with a shortest run."""
     check_network(network)
-    return paper_for(network, start, lambda states, letters: is_finished_in(network, states, letters))
+    return paper_for(network, start, finish_judge(network))
 
 
 def is_finish_paper(network, value, *, start=None):
     """Whether the value is a finish paper."""
     check_network(network)
-    return is_paper_for(network, value, start, lambda states, letters: is_finished_in(network, states, letters))
+    return is_paper_for(network, value, start, finish_judge(network))

@@ -4,105 +4,143 @@ from halflink.networks.configurations import check_configuration, check_states
 from halflink.networks.networks import channels_in, check_network, names_in
 from halflink.runs.runs import behind_moves, found_step, is_run_from
 from halflink.values import is_row, is_whole
-from halflink.views.oneway import MAX_VIEWS, one_way_views
-from halflink.views.views import run_in_acts
-from halflink.views.ways import are_closed, explored, least_weights, path_to
+from halflink.views.oneway import MAX_VIEWS, one_way_parts
+from halflink.views.parts import explored_parts, joined_run, rows_of
+from halflink.views.views import linked_at
+from halflink.views.ways import are_closed, rows_in
 
 
 class CountedWays:
-    """The source whose nodes are the counted views for an asked configuration."""
+    """The source whose rows are the counted views for an asked configuration: the rows of views, and the counts."""
 
-    def __init__(self, views, asked):
-        self.start = views.start
+    def __init__(self, network, views, asked):
+        self.machines = views.machines
         self._views = views
         self._asked = asked
-        self._network = views.network
-        self._channels = channels_in(views.network)
-        self.first = (views.first, (0,) * len(self._channels))
+        self._channels = channels_in(network)
+        self._links = [len(network[0]) + linked_at(network, *channel) for channel in self._channels]
+        # The place of the first count.
+        self._begin = len(views.first)
+        self.first = views.first + (0,) * len(self._channels)
+        self.parts = [places + self._counts_among(places) for places in views.parts]
+        self._posts = posts_of(network)
 
-    def is_node(self, value):
-        """Whether the value is a counted view."""
-        if not is_row(value, 2) or not self._views.is_node(value[0]) or not is_row(value[1], len(self._channels)):
-            return False
-        return all([is_whole(count) and count >= 0 for count in value[1]])
+    def _counts_among(self, places):
+        """The places of the counts of the channels whose links have these places."""
+        return [self._begin + at for at, link in enumerate(self._links) if link in places]
 
-    def ways_from(self, node):
-        """The possible acts, without posts that are not allowed, and the counted views behind them."""
-        view, counts = node
+    def row_of(self, value):
+        """The row of a counted view, or None if the value is none."""
+        if not is_row(value, 2) or not is_row(value[1], len(self._channels)):
+            return None
+        if not all([is_whole(count) and count >= 0 for count in value[1]]):
+            return None
+        row = self._views.row_of(value[0])
+        return None if row is None else row + value[1]
+
+    def counted_view_of(self, row):
+        """The counted view of a row."""
+        return (self._views.view_of(row[:self._begin]), row[self._begin:])
+
+    def ways_from(self, row, machines):
+        """The possible acts that some machines begin, without posts that are not allowed, and the rows behind them."""
         found = []
-        for act, behind in self._views.ways_from(view):
-            counted = self._counts_behind(view, counts, act) if act[0] == "post" else counts
-            if counted is not None:
-                found.append((act, (behind, counted)))
+        for act, behind in self._views.ways_from(row, machines):
+            if act[0] != "post":
+                found.append((act, behind))
+                continue
+            channel, letter = self._posts[act[1:]]
+            count = self._count_behind(row, channel, letter)
+            if count is not None:
+                at = self._begin + channel
+                found.append((act, behind[:at] + (count,) + behind[at + 1:]))
         return found
 
-    def _counts_behind(self, view, counts, act):
-        """The counts behind a post, or None if it is not allowed."""
-        _, _, _, _, place, letter = found_step(self._network, self._channels, act[1], act[2])
-        rest = self._rest(view, place)
-        wanted = self._asked[1][place]
-        many = len(rest) if rest else counts[place]
+    def _count_behind(self, row, channel, letter):
+        """The count of a channel behind a post of a letter, or None if it is not allowed."""
+        rest = self._rest(row, channel)
+        wanted = self._asked[1][channel]
+        many = len(rest) if rest else row[self._begin + channel]
         lying = rest if rest else wanted[:many]
-        if lying + (letter,) != wanted[:many + 1]:
-            return None
-        return counts[:place] + (many + 1,) + counts[place + 1:]
+        return many + 1 if lying + (letter,) == wanted[:many + 1] else None
 
-    def _rest(self, view, place):
+    def _rest(self, row, channel):
         """The letters of the start that lie in a queue and may still be taken."""
-        sender, taker = self._channels[place]
-        for link, hold in zip(self._network[1], view[1]):
-            if hold != () and hold[0] == sender and taker in link:
-                queue = self.start[1][place]
-                return queue[len(queue) - hold[2]:]
-        return ()
+        hold = row[self._links[channel]]
+        if hold == () or hold[0] != self._channels[channel][0]:
+            return ()
+        queue = self._views.start[1][channel]
+        return queue[len(queue) - hold[2]:]
 
-    def is_met(self, node):
-        """Whether the asked configuration is met at a counted view."""
-        view, counts = node
-        states, queues = self._asked
-        if view[0] != states:
-            return False
-        for place, count in enumerate(counts):
-            if count > 0 and count != len(queues[place]):
+    def is_met(self, row, places):
+        """Whether the asked configuration is met at these places of a row."""
+        for at in places:
+            if at < len(self.machines) and row[at] != self._asked[0][at]:
                 return False
-            if count == 0 and queues[place] != self._rest(view, place):
+            if at >= self._begin and not self._is_queue_met(row, at - self._begin):
                 return False
         return True
 
+    def _is_queue_met(self, row, channel):
+        """Whether the asked queue of a channel is met at a row."""
+        count = row[self._begin + channel]
+        queue = self._asked[1][channel]
+        return count == len(queue) if count > 0 else queue == self._rest(row, channel)
+
+
+def posts_of(network):
+    """The channel and the letter of each send, under the name and the index; channels are told by their places."""
+    channels = channels_in(network)
+    posts = {}
+    for name, machine in network[0]:
+        for index, transition in enumerate(machine[2]):
+            if transition[1][0] == "send":
+                _, _, _, _, place, letter = found_step(network, channels, name, index)
+                posts[name, index] = (place, letter)
+    return posts
+
 
 def counted_ways(network, configuration, start):
-    """The source of the counted views; raise the errors that are due for the arguments."""
+    """The source of the counted views, and the start; raise the errors that are due for the arguments."""
     check_network(network)
     check_configuration(network, configuration)
-    views, _ = one_way_views(network, start)
-    return CountedWays(views, configuration)
+    views, _ = one_way_parts(network, start)
+    return (CountedWays(network, views, configuration), views.start)
 
 
 def reach_paper(network, configuration, *, start=None):
     """Any paper that shows whether a run leads to the configuration, with a shortest run."""
-    source = counted_ways(network, configuration, start)
-    ways = explored(source, MAX_VIEWS)
-    met = [node for node in ways if source.is_met(node)]
-    run = nearest_run(ways, source.first, met)
-    return ("closed", tuple(sorted(list(ways)))) if run is None else ("run", run)
+    source, _ = counted_ways(network, configuration, start)
+    parts = explored_parts(source, MAX_VIEWS)
+    met = [
+        [number for number, row in enumerate(part.all_rows) if source.is_met(row, part.places)]
+        for part in parts
+    ]
+    run = run_to_all(parts, met)
+    if run is None:
+        return ("closed", tuple([source.counted_view_of(row) for row in sorted(rows_of(parts))]))
+    return ("run", run)
 
 
-def nearest_run(ways, first, wanted):
-    """Any shortest run of a path from the first node to one of the wanted ones, or None if there are none."""
-    if not wanted:
+def run_to_all(parts, wanted):
+    """Any shortest run to one of the wanted rows of each part, which are told by their numbers, or None."""
+    if [] in wanted:
         return None
-    numbers, before = least_weights(ways, first)
-    return run_in_acts(path_to(before, min(wanted, key=lambda node: numbers[node])))
+    return joined_run([part.nearest(numbers)[0] for part, numbers in zip(parts, wanted)])
 
 
 def is_reach_paper(network, configuration, value, *, start=None):
     """Whether the value is a reach paper."""
-    source = counted_ways(network, configuration, start)
+    source, first = counted_ways(network, configuration, start)
     if not is_row(value, 2):
         return False
     if value[0] == "run":
-        return is_run_to(network, value[1], source.start, configuration)
-    return value[0] == "closed" and are_closed(source, value[1]) and not any([source.is_met(node) for node in value[1]])
+        return is_run_to(network, value[1], first, configuration)
+    rows = rows_in(source, value[1]) if value[0] == "closed" else None
+    if rows is None or not are_closed(source, rows):
+        return False
+    places = list(range(len(source.first)))
+    return not any([source.is_met(row, places) for row in rows])
 
 
 def is_run_to(network, value, start, configuration):
@@ -124,16 +162,18 @@ def is_reached(network, configuration, *, start=None):
 def quiet_rows(network, *, start=None):
     """The rows of states that some run leads to with all queues empty, ascending."""
     check_network(network)
-    _, ways = one_way_views(network, start)
-    for row in sorted({view[0] for view in ways if not any(view[1])}):
+    source, parts = one_way_parts(network, start)
+    many = len(source.machines)
+    for row in sorted([found[:many] for found in rows_of(parts) if not any(found[many:])]):
         yield row
 
 
 def reached_rows(network, *, start=None):
     """The rows of states that some run leads to, ascending."""
     check_network(network)
-    _, ways = one_way_views(network, start)
-    for row in sorted({view[0] for view in ways}):
+    source, parts = one_way_parts(network, start)
+    many = len(source.machines)
+    for row in sorted({found[:many] for found in rows_of(parts)}):
         yield row
 
 
@@ -146,7 +186,13 @@ def meeting_run_by(network, states, *, start=None):
     """Any shortest run to a configuration with the given states, a dict, or None."""
     check_network(network)
     check_states(network, states)
-    source, ways = one_way_views(network, start)
-    asked = [(at, states[name]) for at, name in enumerate(names_in(network)) if name in states]
-    wanted = [view for view in ways if all([view[0][at] == state for at, state in asked])]
-    return nearest_run(ways, source.first, wanted)
+    _, parts = one_way_parts(network, start)
+    asked = {at: states[name] for at, name in enumerate(names_in(network)) if name in states}
+    wanted = []
+    for part in parts:
+        own = [at for at in part.machines if at in asked]
+        wanted.append([
+            number for number, row in enumerate(part.all_rows)
+            if all([row[at] == asked[at] for at in own])
+        ])
+    return run_to_all(parts, wanted)

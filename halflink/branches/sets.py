@@ -9,8 +9,9 @@ from halflink.networks.configurations import first_in
 from halflink.networks.networks import check_name, check_network, ordered_link, ways_from
 from halflink.talks.tables import MAX_SETS
 from halflink.talks.words import sign_of
+from halflink.views.graphs import explored, finished_order, nearest_path
 from halflink.views.oneway import MAX_VIEWS
-from halflink.views.ways import ViewWays, explored, finished_order, nearest_path
+from halflink.views.ways import ViewWays
 
 
 def check_linked(network, one, other):
@@ -66,20 +67,13 @@ class BranchViews:
     def __init__(self, network, one, other):
         inside = inner_network(network, one, other)
         source = ViewWays(inside, first_in(inside))
-        ways = explored(source, MAX_VIEWS)
+        machines = source.machines
+        rows, ways = explored(source.first, lambda row: source.ways_from(row, machines), 1, MAX_VIEWS)
         signs = outer_signs(network, one, other)
-        numbers = {view: number for number, view in enumerate(ways)}
-        self.exposed = [source.exposing_send(view) is not None for view in ways]
+        self.exposed = [source.exposing_send(row, machines) is not None for row in rows]
         # Pairs of an act and the view behind it, and triples with a sign in front of these.
-        self.inner = [[] for _ in ways]
-        self.outer = [[] for _ in ways]
-        for view in ways:
-            number = numbers[view]
-            for act, behind in ways[view]:
-                if act[1:3] in signs:
-                    self.outer[number].append((signs[act[1:3]], act, numbers[behind]))
-                else:
-                    self.inner[number].append((act, numbers[behind]))
+        self.inner = [[way for way in row if way[0][1:3] not in signs] for row in ways]
+        self.outer = [[(signs[act[1:3]], act, behind) for act, behind in row if act[1:3] in signs] for row in ways]
 
 
 def closures_of(inner):

@@ -11,8 +11,9 @@ from halflink.networks.configurations import crossed_in, letters_lying, start_in
 from halflink.networks.networks import check_name, check_network, names_in
 from halflink.values import is_whole
 from halflink.views.oneway import MAX_VIEWS, crossing_run
+from halflink.views.parts import count_of, explored_parts
 from halflink.views.views import short_start
-from halflink.views.ways import ViewWays, explored
+from halflink.views.ways import ViewWays
 
 
 class Desk:
@@ -100,7 +101,7 @@ class Desk:
     def view_count(self):
         """The number of views to which paths lead, 0 from a crossed configuration."""
         start = short_start(self.network, self.now)
-        return 0 if self.crossed else len(explored(ViewWays(self.network, start), MAX_VIEWS))
+        return 0 if self.crossed else count_of(explored_parts(ViewWays(self.network, start), MAX_VIEWS))
 
     def is_unseen(self, name, machine, state):
         """Whether a swap would be unseen."""

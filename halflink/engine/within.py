@@ -1,12 +1,13 @@
 """Runs within bounds: no queue has more letters than the capacity, and all of them together no more than the most."""
 
-from halflink.asked.reach import nearest_run
+from halflink.asked.reach import run_to_all
 from halflink.errors import InvalidNumber, InvalidOperation, TooMany
 from halflink.networks.configurations import are_states_of, first_in, start_in
 from halflink.networks.networks import channels_in, check_network
 from halflink.runs.runs import behind_step_of, configurations_behind, found_step, is_run_from
 from halflink.values import is_row, is_whole, is_whole_from
-from halflink.views.ways import ViewWays, are_closed, explored
+from halflink.views.parts import explored_parts, rows_of
+from halflink.views.ways import ViewWays, are_closed, rows_in
 
 MAX_CAPACITY = 20
 MAX_MOST = 100
@@ -96,23 +97,27 @@ def configurations_within(network, *, capacity=1, most=None, start=None):
 
 
 class RowWays:
-    """The source whose nodes are the rows of states, and whose acts leave all queues empty."""
+    """The source of the rows of views without letters, and of the acts that leave all queues empty."""
 
     def __init__(self, network):
-        start = first_in(network)
-        self.first = start[0]
         self._network = network
-        self._views = ViewWays(network, start)
+        self._views = ViewWays(network, first_in(network))
         self._free = ((),) * len(network[1])
+        self.first = self._views.first
+        self.machines = self._views.machines
+        self.parts = self._views.parts
 
-    def is_node(self, value):
-        """Whether the value is a row of states."""
-        return are_states_of(self._network, value)
+    def row_of(self, value):
+        """The row of a tuple with a state for each machine, or None for other values."""
+        return value + self._free if are_states_of(self._network, value) else None
 
-    def ways_from(self, row):
+    def states_of(self, row):
+        """The tuple of the states of a row."""
+        return row[:len(self.machines)]
+
+    def ways_from(self, row, machines):
         """The steps, and the sends with the takes of their letters right after them, and the rows behind these."""
-        ways = self._views.ways_from((row, self._free))
-        return [(act, behind[0]) for act, behind in ways if act[0] != "post"]
+        return [way for way in self._views.ways_from(row, machines) if way[0][0] != "post"]
 
 
 def check_row(network, row):
@@ -126,10 +131,15 @@ def quiet_paper(network, row):
     """Any paper that shows whether a run with at most one letter at a time leads to a row of states without letters."""
     check_row(network, row)
     source = RowWays(network)
-    ways = explored(source, MAX_FOUND)
-    if row not in ways:
-        return ("closed", tuple(sorted(list(ways))))
-    return ("run", nearest_run(ways, source.first, [row]))
+    parts = explored_parts(source, MAX_FOUND)
+    met = [
+        [number for number, found in enumerate(part.all_rows) if all([found[at] == row[at] for at in part.machines])]
+        for part in parts
+    ]
+    run = run_to_all(parts, met)
+    if run is None:
+        return ("closed", tuple([source.states_of(found) for found in sorted(rows_of(parts))]))
+    return ("run", run)
 
 
 def is_quiet_paper(network, row, value):
@@ -139,7 +149,11 @@ def is_quiet_paper(network, row, value):
         return False
     if value[0] == "run":
         return is_quiet_run(network, row, value[1])
-    return value[0] == "closed" and are_closed(RowWays(network), value[1]) and row not in value[1]
+    if value[0] != "closed":
+        return False
+    source = RowWays(network)
+    rows = rows_in(source, value[1])
+    return rows is not None and are_closed(source, rows) and row not in value[1]
 
 
 def is_quiet_run(network, row, value):

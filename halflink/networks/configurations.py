@@ -25,7 +25,8 @@ def are_states_of(network, value):
     if not is_row(value, len(network[0])):
         return False
     for state, (_, machine) in zip(value, network[0]):
-        if not is_whole(state) or not 0 <= state < machine[0]:
+        # Papers have very many states: the short test of the common kind keeps this quick.
+        if not (type(state) is int or is_whole(state)) or not 0 <= state < machine[0]:
             return False
     return True
 

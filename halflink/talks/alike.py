@@ -7,8 +7,9 @@ from halflink.talks.tables import MAX_SETS, signs_of_both, table_of_rows
 from halflink.talks.talks import Talk
 from halflink.talks.words import Doing, check_single, check_word, mirrored_sign
 from halflink.values import is_ascending, is_name, is_row
-from halflink.views.oneway import MAX_VIEWS
-from halflink.views.ways import ViewWays, explored
+from halflink.views.oneway import MAX_VIEWS, crossing_ahead
+from halflink.views.parts import explored_parts
+from halflink.views.ways import ViewWays
 
 
 def paired_network(left, right):
@@ -87,7 +88,7 @@ def likeness_of(first, second):
                 waiting.append(behind)
         if len(met) > MAX_SETS:
             raise TooMany(MAX_SETS)
-    return tuple(sorted(list(met)))
+    return tuple(sorted([(one.states_of(here), other.states_of(there)) for here, there in met]))
 
 
 def is_likeness(first, second, value):
@@ -100,10 +101,10 @@ def is_likeness(first, second, value):
     for here, there in value:
         if not is_closed_set(first, one, here) or not is_closed_set(second, other, there):
             return False
-    inside = {pair: True for pair in value}
+    inside = {(one.set_of(here), other.set_of(there)): True for here, there in value}
     if not is_ascending(value) or (one.first, other.first) not in inside:
         return False
-    for here, there in value:
+    for here, there in inside:
         near, far = one.carefully_behind(here), other.carefully_behind(there)
         if list(near) != list(far) or not all([(near[sign], far[sign]) in inside for sign in near]):
             return False
@@ -112,7 +113,7 @@ def is_likeness(first, second, value):
 
 def is_closed_set(machine, doing, value):
     """Whether the value is an ascending tuple of states of the machine out of which no steps lead."""
-    return are_states(value, machine[0]) and doing.with_steps(list(value)) == value
+    return are_states(value, machine[0]) and doing.states_of(doing.set_of(value)) == value
 
 
 def mirror_machine(word, other):
@@ -150,8 +151,12 @@ def is_telling(first, second, value):
 
 def seen_of_pair(left, right):
     """Whether a crossing is reachable in the pair, and whether the right machine's last state with empty queues is."""
-    network = pair_of(left, right)
-    source = ViewWays(network, first_in(network))
-    ways = explored(source, MAX_VIEWS)
-    crossing = any([source.exposing_send(view) is not None for view in ways])
-    return (crossing, any([view[0][1] == right[0] - 1 and view[1] == ((),) for view in ways]))
+    source = ViewWays(pair_of(left, right), first_in(pair_of(left, right)))
+    parts = explored_parts(source, MAX_VIEWS)
+    # The rows have the states of both machines and the hold of the link.
+    asked = {1: right[0] - 1, 2: ()}
+    met = []
+    for part in parts:
+        own = [place for place in part.places if place in asked]
+        met.append(any([all([row[place] == asked[place] for place in own]) for row in part.all_rows]))
+    return (crossing_ahead(source, parts) is not None, all(met))

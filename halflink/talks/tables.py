@@ -1,6 +1,7 @@
 """Tables of talks: for each place, a dict from the signs that can be read there to the places behind them.
 
 All words that can be read from the first place are a talk. Its rows come from a table with as few places as possible.
+The signs stand in each of the dicts in ascending order.
 """
 
 from halflink.errors import TooMany
@@ -33,7 +34,7 @@ def table_of_machine(machine, careful):
 
 
 def table_of_words(words):
-    """The table of the beginnings of some words."""
+    """The table of the beginnings of some words; behind each place there are only later ones."""
     table = [{}]
     for word in words:
         place = 0
@@ -42,7 +43,12 @@ def table_of_words(words):
                 table[place][sign] = len(table)
                 table.append({})
             place = table[place][sign]
-    return table
+    return [in_order(row) for row in table]
+
+
+def in_order(row):
+    """The dict with its signs in ascending order."""
+    return {sign: row[sign] for sign in sorted(list(row))} if len(row) > 1 else row
 
 
 def joined_table(one, other, either):
@@ -56,20 +62,20 @@ def joined_table(one, other, either):
         near = {} if here is None else one[here]
         far = {} if there is None else other[there]
         row = {}
-        for sign in signs_of_both(near, far):
-            if either or (sign in near and sign in far):
-                behind = (near.get(sign), far.get(sign))
-                if behind not in numbers:
-                    numbers[behind] = len(pairs)
-                    pairs.append(behind)
-                row[sign] = numbers[behind]
+        for sign in signs_of_both(near, far) if either else [sign for sign in near if sign in far]:
+            behind = (near.get(sign), far.get(sign))
+            if behind not in numbers:
+                numbers[behind] = len(pairs)
+                pairs.append(behind)
+            row[sign] = numbers[behind]
         table.append(row)
     return table
 
 
 def signs_of_both(row, other):
     """The list of the signs that can be read at one of two places at least, ascending."""
-    return sorted([*row, *[sign for sign in other if sign not in row]])
+    more = [sign for sign in other if sign not in row]
+    return sorted([*row, *more]) if more else list(row)
 
 
 def careful_table(table):
@@ -79,7 +85,7 @@ def careful_table(table):
 
 def mirrored_table(table):
     """The table of the mirrors."""
-    return [{mirrored_sign(sign): row[sign] for sign in row} for row in table]
+    return [in_order({mirrored_sign(sign): row[sign] for sign in row}) for row in table]
 
 
 def are_within(one, other):
@@ -103,7 +109,7 @@ def classes_by_signs(table, marks):
     numbers = {}
     classes = []
     for row, mark in zip(table, marks):
-        key = (mark, *sorted(list(row)))
+        key = (mark, *row)
         if key not in numbers:
             numbers[key] = len(numbers)
         classes.append(numbers[key])
@@ -124,7 +130,7 @@ def classes_of(table, marks, limit):
 
     All places must be reached if there are more of them than the limit; an error is raised for more classes than that.
     """
-    behind = [[row[sign] for sign in sorted(list(row))] for row in table]
+    behind = [list(row.values()) for row in table]
     before = places_before(behind)
     classes = list(classes_by_signs(table, marks))
     sizes = [0 for _ in table]
@@ -159,15 +165,28 @@ def classes_of(table, marks, limit):
     return classes
 
 
+def classes_of_tree(table, limit):
+    """The same for a table in which only later places are behind each place, and whose places are all reached."""
+    numbers = {}
+    classes = [0 for _ in table]
+    for place in range(len(table) - 1, -1, -1):
+        row = table[place]
+        key = tuple([(sign, classes[row[sign]]) for sign in row])
+        if key not in numbers:
+            numbers[key] = len(numbers)
+            if len(numbers) > limit:
+                raise TooMany(limit)
+        classes[place] = numbers[key]
+    return classes
+
+
 def ordered_places(table, classes, first):
     """A place of each class that is read from the first place, in the order of the smallest words that lead there."""
     met = {classes[first]: True}
     found = [first]
     done = 0
     while done < len(found):
-        row = table[found[done]]
-        for sign in sorted(list(row)):
-            behind = row[sign]
+        for behind in table[found[done]].values():
             if classes[behind] not in met:
                 met[classes[behind]] = True
                 found.append(behind)
@@ -175,25 +194,24 @@ def ordered_places(table, classes, first):
     return found
 
 
-def rows_behind(table, classes, places):
-    """The rows of the talk of all words that can be read from the first of these places, one of each class."""
+def rows_behind(table, classes, first):
+    """The rows of the talk of all words that can be read from a place, in a table whose places have such classes."""
+    places = ordered_places(table, classes, first)
     numbers = {classes[place]: number for number, place in enumerate(places)}
     return tuple([
-        tuple([(sign, numbers[classes[table[place][sign]]]) for sign in sorted(list(table[place]))])
+        tuple([(sign, numbers[classes[behind]]) for sign, behind in table[place].items()])
         for place in places
     ])
 
 
 def rows_from(table, first):
     """The rows of the talk of all words that can be read from a place, in a table without places that are alike."""
-    classes = list(range(len(table)))
-    return rows_behind(table, classes, ordered_places(table, classes, first))
+    return rows_behind(table, list(range(len(table))), first)
 
 
 def least_rows(table, limit):
     """The rows of the talk of a table; raise the error that is due if there are more than the limit."""
-    classes = classes_of(table, [False for _ in table], limit)
-    return rows_behind(table, classes, ordered_places(table, classes, 0))
+    return rows_behind(table, classes_of(table, [False for _ in table], limit), 0)
 
 
 def marked_rows(table, marks):
@@ -201,7 +219,7 @@ def marked_rows(table, marks):
     classes = classes_of(table, marks, len(table))
     places = ordered_places(table, classes, 0)
     numbers = [number for number, place in enumerate(places) if marks[place]]
-    return (rows_behind(table, classes, places), tuple(numbers))
+    return (rows_behind(table, classes, 0), tuple(numbers))
 
 
 def table_of_rows(rows):

@@ -3,8 +3,8 @@
 from halflink.errors import InvalidNumber, InvalidOperation, InvalidWord, TooMany
 from halflink.machines.machines import MAX_STATES, MAX_TRANSITIONS
 from halflink.talks.tables import (
-    are_rows, are_within, careful_table, joined_table, least_rows, mirrored_table, place_behind, rows_from,
-    table_of_machine, table_of_rows, table_of_words,
+    are_rows, are_within, careful_table, classes_of_tree, joined_table, least_rows, mirrored_table, place_behind,
+    rows_behind, rows_from, table_of_machine, table_of_rows, table_of_words,
 )
 from halflink.talks.words import check_single, is_word
 from halflink.values import is_name, is_whole_from
@@ -46,7 +46,8 @@ class Talk:
         # Each beginning of a longest word has a residual of its own.
         if any([len(word) >= cls.LIMIT for word in words]):
             raise TooMany(cls.LIMIT)
-        return Talk(least_rows(table_of_words(words), cls.LIMIT))
+        table = table_of_words(words)
+        return Talk(rows_behind(table, classes_of_tree(table, cls.LIMIT), 0))
 
     @classmethod
     def from_rows(cls, rows):
@@ -132,10 +133,7 @@ class Talk:
         """The number of words with this length."""
         if not is_whole_from(length, 0, self.LIMIT):
             raise InvalidNumber(length)
-        many = [1 for _ in self._rows]
-        for _ in range(length):
-            many = longer_counts(self._rows, many)
-        return many[0]
+        return count_of_words(self._rows, length)
 
     def words(self, *, longest=4):
         """All words up to this length, in their order."""
@@ -158,21 +156,53 @@ def check_talk(value):
         raise InvalidOperation("not a talk")
 
 
-def longer_counts(rows, many):
-    """For each row the number of words with one sign more, from the numbers of the words behind the rows."""
-    return [sum([many[behind] for _, behind in row]) for row in rows]
+def count_of_words(rows, length):
+    """The number of words with this length that can be read along the rows."""
+    many = {0: 1}
+    times = [repeated([behind for _, behind in row]) for row in rows]
+    for _ in range(length):
+        many = counts_behind(times, many)
+    return sum(list(many.values()))
+
+
+def repeated(numbers):
+    """How often each of the numbers stands in a list."""
+    times = {}
+    for number in numbers:
+        times[number] = times.get(number, 0) + 1
+    return times
+
+
+def counts_behind(times, many):
+    """How many words lead to each row, from the numbers of those with one sign less; other rows are left out.
+
+    For each row, times tells how many signs lead from it to each row.
+    """
+    longer = {}
+    for place in many:
+        for behind, count in times[place].items():
+            longer[behind] = longer.get(behind, 0) + many[place] * count
+    return longer
 
 
 def numbered_word(rows, number):
     """The word with this number, or None if there are not so many words."""
-    counts = [[1 for _ in rows]]
+    times = [repeated([behind for _, behind in row]) for row in rows]
+    levels = [{0: 1}]
     left = number
-    while left >= counts[-1][0]:
-        left = left - counts[-1][0]
-        longer = longer_counts(rows, counts[-1])
-        if longer[0] == 0:
+    words = 1
+    while left >= words:
+        left = left - words
+        longer = counts_behind(times, levels[-1])
+        if not longer:
             return None
-        counts.append(longer)
+        levels.append(longer)
+        words = sum(list(longer.values()))
+    # For the rows of each level, the last one first, how many words with the missing signs can be read from them.
+    counts = [{place: 1 for place in levels[-1]}]
+    for level in levels[:-1][::-1]:
+        ahead = counts[-1]
+        counts.append({place: sum([ahead[behind] for _, behind in rows[place]]) for place in level})
     word = []
     place = 0
     for many in counts[:-1][::-1]:

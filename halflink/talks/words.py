@@ -14,9 +14,13 @@ def is_word(value):
     """Whether the value is a word."""
     if not isinstance(value, tuple):
         return False
+    # Many words repeat one sign; this first one is a sign itself.
+    known = ("send", "a")
     for part in value:
-        if not is_sign(part):
-            return False
+        if part != known:
+            if not is_sign(part):
+                return False
+            known = part
     return True
 
 
@@ -122,39 +126,97 @@ def is_doing(machine, word, value):
     return tuple(signs) == word
 
 
+# Sets are looked up in pieces of so many bits, so that the tables of the pieces are small.
+PIECE = 6
+LAST_PIECE = (1 << PIECE) - 1
+
+
 class Doing:
-    """What a machine can do from sets of its states, which are ascending tuples."""
+    """What a machine can do from sets of its states. A set is an integer in which the bit of each state is set.
+
+    What lies behind all signs is kept in one integer, too: for each sign, in their order, it has a set.
+    """
 
     def __init__(self, machine):
-        self._rows = signed_transitions(machine)
-        self._steps = [[behind for _, sign, behind in row if sign is None] for row in self._rows]
-        self.first = self.with_steps([0])
-
-    def with_steps(self, states):
-        """The states to which steps lead from these, and these."""
-        met = {state: True for state in states}
-        waiting = list(states)
-        while waiting:
-            here = waiting.pop()
-            for behind in self._steps[here]:
-                if behind not in met:
-                    met[behind] = True
-                    waiting.append(behind)
-        return tuple(sorted(list(met)))
-
-    def behind(self, states):
-        """The sets behind each sign that some of the states allow, under the sign."""
-        found = {}
-        for state in states:
-            for _, sign, behind in self._rows[state]:
+        rows = signed_transitions(machine)
+        self._size = machine[0]
+        self._closures = closures_of_steps(rows)
+        self._signs = sorted({sign for row in rows for _, sign, _ in row if sign is not None})
+        shifts = {sign: self._size * at for at, sign in enumerate(self._signs)}
+        ahead = []
+        for row in rows:
+            behind = 0
+            for _, sign, state in row:
                 if sign is not None:
-                    found.setdefault(sign, []).append(behind)
-        return {sign: self.with_steps(found[sign]) for sign in sorted(list(found))}
+                    behind = behind | (self._closures[state] << shifts[sign])
+            ahead.append(behind)
+        self._whole = (1 << self._size) - 1
+        # In the order of the signs, sends stand before takes.
+        many = len([sign for sign in self._signs if sign[0] == "send"])
+        self._sends = (1 << self._size * many) - 1
+        self._pieces = [joined_pieces(ahead[at:at + PIECE]) for at in range(0, self._size, PIECE)]
+        self.first = self._closures[0]
 
-    def carefully_behind(self, states):
+    def set_of(self, states):
+        """The set of the states of a tuple, and of all to which steps lead from them."""
+        found = 0
+        for state in states:
+            found = found | self._closures[state]
+        return found
+
+    def states_of(self, here):
+        """The ascending tuple of the states of a set."""
+        return tuple([state for state in range(self._size) if (here >> state) & 1])
+
+    def behind(self, here):
+        """The sets behind each sign that some states of a set allow, under the signs, which ascend."""
+        return self._by_signs(self._ahead(here))
+
+    def carefully_behind(self, here):
         """The same for the sends alone, or for the takes if there is no send."""
-        found = self.behind(states)
-        return {sign: found[sign] for sign in careful_signs(list(found))}
+        ahead = self._ahead(here)
+        return self._by_signs(ahead & self._sends if ahead & self._sends else ahead)
+
+    def _ahead(self, here):
+        """What lies behind all signs that some states of a set allow, as one integer."""
+        ahead = 0
+        for piece in self._pieces:
+            ahead = ahead | piece[here & LAST_PIECE]
+            here = here >> PIECE
+        return ahead
+
+    def _by_signs(self, ahead):
+        """The sets in one integer, under their signs."""
+        found = {}
+        for sign in self._signs:
+            if ahead & self._whole:
+                found[sign] = ahead & self._whole
+            ahead = ahead >> self._size
+        return found
+
+
+def closures_of_steps(rows):
+    """For each state the set of those to which steps lead from it, and of itself."""
+    steps = [[behind for _, sign, behind in row if sign is None] for row in rows]
+    closures = []
+    for state in range(len(rows)):
+        found = 1 << state
+        waiting = [state]
+        while waiting:
+            for behind in steps[waiting.pop()]:
+                if not (found >> behind) & 1:
+                    found = found | (1 << behind)
+                    waiting.append(behind)
+        closures.append(found)
+    return closures
+
+
+def joined_pieces(sets):
+    """For each set of places, as an integer, what is in the sets at these places."""
+    joined = [0]
+    for ahead in sets:
+        joined = joined + [found | ahead for found in joined]
+    return joined
 
 
 def careful_signs(signs):
@@ -169,9 +231,9 @@ def states_after(machine, word):
     check_word(word)
     doing = Doing(machine)
     known = {}
-    states = doing.first
+    here = doing.first
     for sign in word:
-        if states not in known:
-            known[states] = doing.behind(states)
-        states = known[states].get(sign, ())
-    return states
+        if here not in known:
+            known[here] = doing.behind(here)
+        here = known[here].get(sign, 0)
+    return doing.states_of(here)

@@ -5,20 +5,30 @@ from halflink.networks.configurations import crossed_in
 from halflink.networks.networks import check_network
 from halflink.runs.runs import frozen, walked
 from halflink.values import is_row, is_whole
-from halflink.views.views import run_in_acts, short_start, viewed_start
-from halflink.views.ways import ViewWays, are_closed, explored, least_weights, path_to, weight_of_act
+from halflink.views.graphs import weight_of_act
+from halflink.views.parts import explored_parts, numbered_rows, rows_of
+from halflink.views.views import short_start, viewed_start
+from halflink.views.ways import ViewWays, are_closed, rows_in
 
 MAX_VIEWS = 2000
 
 
-def crossing_ahead(source, ways):
-    """Any shortest run to a crossing, with all ways between the views; or None."""
-    numbers, before = least_weights(ways, source.first)
-    exposed = [view for view in ways if source.exposing_send(view) is not None]
+def crossing_ahead(source, parts):
+    """Any shortest run to a crossing, which lies in one of the parts; or None."""
+    runs = [run for part in parts for run in crossings_in(source, part)]
+    return min(runs, key=len) if runs else None
+
+
+def crossings_in(source, part):
+    """The list of any shortest run of a part to a crossing, or of nothing."""
+    exposed = [
+        number for number, row in enumerate(part.all_rows)
+        if source.exposing_send(row, part.machines) is not None
+    ]
     if not exposed:
-        return None
-    view = min(exposed, key=lambda node: numbers[node])
-    return run_in_acts(path_to(before, view)) + (source.exposing_send(view),)
+        return []
+    run, number = part.nearest(exposed)
+    return [run + (source.exposing_send(part.all_rows[number], part.machines),)]
 
 
 def crossing_from(network, start):
@@ -26,17 +36,27 @@ def crossing_from(network, start):
     if crossed_in(network, start):
         return ()
     source = ViewWays(network, start)
-    return crossing_ahead(source, explored(source, MAX_VIEWS))
+    return crossing_ahead(source, explored_parts(source, MAX_VIEWS))
 
 
-def one_way_views(network, start):
-    """The source of the views and all ways between them; raise the errors that are due where a link can be crossed."""
+def one_way_parts(network, start):
+    """The source of the views and its parts; raise the errors that are due where a link can be crossed."""
     source = ViewWays(network, viewed_start(network, start))
-    ways = explored(source, MAX_VIEWS)
-    run = crossing_ahead(source, ways)
+    parts = explored_parts(source, MAX_VIEWS)
+    run = crossing_ahead(source, parts)
     if run is not None:
         raise Crossed(run)
-    return (source, ways)
+    return (source, parts)
+
+
+def views_in(source, parts):
+    """All views to which paths lead, as an ascending tuple."""
+    return tuple([source.view_of(row) for row in sorted(rows_of(parts))])
+
+
+def numbered_views(source, parts):
+    """Pairs of the least weight of a path to a view and the row of this view, for all views, ascending."""
+    return sorted(numbered_rows(parts, [part.weights() for part in parts]))
 
 
 def is_one_way(network, *, start=None):
@@ -55,9 +75,8 @@ def view_numbers(network, *, start=None):
     """All views to which paths lead, with the least weight of such a path, by these numbers."""
     check_network(network)
     source = ViewWays(network, viewed_start(network, start))
-    numbers, _ = least_weights(explored(source, MAX_VIEWS), source.first)
-    for number, view in sorted([(numbers[node], node) for node in numbers]):
-        yield (view, number)
+    for number, row in numbered_views(source, explored_parts(source, MAX_VIEWS)):
+        yield (source.view_of(row), number)
 
 
 def one_way_paper(network, *, start=None):
@@ -67,9 +86,9 @@ def one_way_paper(network, *, start=None):
     if crossed_in(network, first):
         return ("crossing", ())
     source = ViewWays(network, first)
-    ways = explored(source, MAX_VIEWS)
-    run = crossing_ahead(source, ways)
-    return ("closed", tuple(sorted(list(ways)))) if run is None else ("crossing", run)
+    parts = explored_parts(source, MAX_VIEWS)
+    run = crossing_ahead(source, parts)
+    return ("closed", views_in(source, parts)) if run is None else ("crossing", run)
 
 
 def leads_to_crossing(network, value, start):
@@ -91,7 +110,16 @@ def is_one_way_paper(network, value, *, start=None):
     if value[0] != "closed" or crossed_in(network, first):
         return False
     source = ViewWays(network, first)
-    return are_closed(source, value[1]) and all([source.exposing_send(view) is None for view in value[1]])
+    rows = rows_in(source, value[1])
+    return rows is not None and are_closed(source, rows) and not any_exposed(source, rows)
+
+
+def any_exposed(source, rows):
+    """Whether some of the rows are exposed."""
+    for row in rows:
+        if source.exposing_send(row, source.machines) is not None:
+            return True
+    return False
 
 
 def nearest_paper(network, *, start=None):
@@ -101,12 +129,12 @@ def nearest_paper(network, *, start=None):
     if crossed_in(network, first):
         return ((), {})
     source = ViewWays(network, first)
-    ways = explored(source, MAX_VIEWS)
-    run = crossing_ahead(source, ways)
+    parts = explored_parts(source, MAX_VIEWS)
+    run = crossing_ahead(source, parts)
     if run is None:
         return None
-    numbers, _ = least_weights(ways, source.first)
-    return (run, {view: numbers[view] for view in sorted(list(numbers)) if numbers[view] < len(run)})
+    near = sorted([(row, number) for number, row in numbered_views(source, parts) if number < len(run)])
+    return (run, {source.view_of(row): number for row, number in near})
 
 
 def is_nearest_paper(network, value, *, start=None):
@@ -123,16 +151,19 @@ def is_nearest_paper(network, value, *, start=None):
 
 def are_nearest(source, many, numbers):
     """Whether the numbers of a dict show that no run with fewer moves leads to a crossing."""
+    found = {}
     for view in numbers:
-        if not source.is_node(view) or not is_whole(numbers[view]) or numbers[view] < 0:
+        row = source.row_of(view)
+        if row is None or not is_whole(numbers[view]) or numbers[view] < 0:
             return False
-    if numbers.get(source.first) != 0:
+        found[row] = numbers[view]
+    if found.get(source.first) != 0:
         return False
-    for view in numbers:
-        if source.exposing_send(view) is not None and numbers[view] < many - 1:
+    for row in found:
+        if found[row] < many - 1 and source.exposing_send(row, source.machines) is not None:
             return False
-        for act, behind in source.ways_from(view):
+        for act, behind in source.ways_from(row, source.machines):
             # A view that is not among them counts as one with the length of the run.
-            if numbers.get(behind, many) > numbers[view] + weight_of_act(act):
+            if found.get(behind, many) > found[row] + weight_of_act(act):
                 return False
     return True

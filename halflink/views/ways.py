@@ -1,98 +1,149 @@
-"""Ways from view to view: the acts that lead on, looked up by states, and searches along them.
+"""The acts of a network, looked up by states, and the parts of a network which no act joins with one another.
 
-A source is an object with the attribute first, a node, and with the methods is_node and ways_from. The ways from a node
-are a list of pairs of an act and the node behind it.
+A view is searched as a row: the states of all machines, and behind them the holds of all links. Rows have the order of
+their views. A source is an object with the attributes first, a row, machines, the places of the machines in rows, and
+parts, the places that belong together, and with the methods row_of and ways_from.
 """
 
-from halflink.errors import TooMany
-from halflink.networks.configurations import queue_in
-from halflink.networks.networks import names_in
-from halflink.runs.runs import replaced
-from halflink.values import is_ascending
-from halflink.views.views import is_view_from, linked_at, other_end, rest_hold, view_of_start
+from halflink.networks.configurations import are_states_of, queue_in
+from halflink.networks.networks import channels_in, names_in
+from halflink.values import is_ascending, is_row
+from halflink.views.views import is_loose_hold, is_rest_hold, linked_at, other_end, rest_hold, view_of_start
 
 
 class ViewWays:
-    """The source whose nodes are the views of a network from an uncrossed start."""
+    """The source whose rows are the views of a network from an uncrossed start."""
 
     def __init__(self, network, start):
-        self.network = network
         self.start = start
-        self.first = view_of_start(network, start)
-        self._names = names_in(network)
-        self._deeds = [deeds_by_state(network, name, machine) for name, machine in network[0]]
+        states, holds = view_of_start(network, start)
+        self.first = states + holds
+        self.machines = list(range(len(states)))
+        self.parts = parts_of(network)
+        self._net = network
+        self._deeds = deeds_by_state(network, start)
+        self._sends = [[[deed for deed in row if deed[0] == "send"] for row in rows] for rows in self._deeds]
         self._rests = [rests_of(network, start, link) for link in network[1]]
 
-    def is_node(self, value):
-        """Whether the value is a view."""
-        return is_view_from(self.network, value, self.start)
+    def row_of(self, value):
+        """The row of a view, or None if the value is not a view."""
+        if not is_row(value, 2) or not are_states_of(self._net, value[0]) or not is_row(value[1], len(self._net[1])):
+            return None
+        for at, hold in enumerate(value[1]):
+            if hold != () and not self._is_hold(hold, at):
+                return None
+        return value[0] + value[1]
 
-    def ways_from(self, view):
-        """The possible acts, and the views behind them."""
-        states, holds = view
+    def _is_hold(self, value, at):
+        """Whether the value is a hold of a link that is not free."""
+        link = self._net[1][at]
+        if not is_loose_hold(value, link):
+            return False
+        return value[2] == 0 or is_rest_hold(self._net, value, self.start, link)
+
+    def view_of(self, row):
+        """The view of a row."""
+        many = len(self.machines)
+        return (row[:many], row[many:])
+
+    def ways_from(self, row, machines):
+        """The possible acts that some machines begin, and the rows behind them."""
         found = []
-        for at, state in enumerate(states):
-            for deed in self._deeds[at][state]:
-                if deed[1] == "send":
-                    found.extend(self._sends_from(view, at, deed))
-                elif deed[1] == "step":
-                    act = ("step", self._names[at], deed[0])
-                    found.append((act, (replaced(states, at, deed[5]), holds)))
+        for at in machines:
+            head, tail = row[:at], row[at + 1:]
+            for deed in self._deeds[at][row[at]]:
+                if deed[0] == "step":
+                    found.append((deed[1], head + deed[2] + tail))
+                elif deed[0] == "send":
+                    self._add_sends(found, row, at, deed)
                 else:
-                    found.extend(self._takes_from(view, at, deed))
+                    self._add_take(found, row, at, deed)
         return found
 
-    def _takes_from(self, view, at, deed):
-        """The take of a letter of the start by this deed of a machine, if it is possible."""
-        index, _, link, far, letter, behind = deed
-        states, holds = view
-        hold = holds[link]
-        if hold == () or hold[2] == 0 or hold[:2] != (self._names[far], letter):
-            return []
-        rest = self._rests[link][hold[2] - 1]
-        return [(("take", self._names[at], index), (replaced(states, at, behind), replaced(holds, link, rest)))]
-
-    def _sends_from(self, view, at, deed):
-        """The post and the hands by this deed of a machine, if they are possible."""
-        index, _, link, far, letter, behind = deed
-        states, holds = view
-        name, hold = self._names[at], holds[link]
-        if hold != () and hold[0] != name:
-            return []
-        moved = replaced(states, at, behind)
-        posted = (name, letter, 0) if hold == () else (name, hold[1], 0)
-        found = [(("post", name, index), (moved, replaced(holds, link, posted)))]
+    def _add_sends(self, found, row, at, deed):
+        """Add the post and the hands by this deed of a machine, if they are possible."""
+        _, act, behind, link, held, far, hands = deed
+        hold = row[link]
         if hold == ():
-            for number, word, taken_link, _, taken, next_state in self._deeds[far][states[far]]:
-                if word == "take" and taken_link == link and taken == letter:
-                    act = ("hand", name, index, self._names[far], number)
-                    found.append((act, (replaced(moved, far, next_state), holds)))
-        return found
+            moved = row[:at] + behind + row[at + 1:link]
+            found.append((act, moved + held + row[link + 1:]))
+            for hand, far_behind in hands.get(row[far], ()):
+                handed = moved + row[link:]
+                found.append((hand, handed[:far] + far_behind + handed[far + 1:]))
+        elif hold[0] == held[0][0]:
+            moved = row[:at] + behind + row[at + 1:link]
+            found.append((act, moved + ((hold[0], hold[1], 0),) + row[link + 1:]))
 
-    def exposing_send(self, view):
-        """A move that sends over a link which the other end holds, or None if the view is not exposed."""
-        states, holds = view
-        for at, state in enumerate(states):
-            for index, word, link, far, _, _ in self._deeds[at][state]:
-                if word == "send" and holds[link] != () and holds[link][0] == self._names[far]:
-                    return (self._names[at], index)
+    def _add_take(self, found, row, at, deed):
+        """Add the take of a letter of the start by this deed of a machine, if it is possible."""
+        _, act, behind, link, sender, letter = deed
+        hold = row[link]
+        if hold != () and hold[2] > 0 and hold[:2] == (sender, letter):
+            rest = self._rests[link - len(self.machines)][hold[2] - 1]
+            found.append((act, row[:at] + behind + row[at + 1:link] + (rest,) + row[link + 1:]))
+
+    def exposing_send(self, row, machines):
+        """A move of some machines that sends over a link which the other end holds, or None if there is none."""
+        if not any(row[len(self.machines):]):
+            return None
+        for at in machines:
+            for _, act, _, link, held, _, _ in self._sends[at][row[at]]:
+                hold = row[link]
+                if hold != () and hold[0] != held[0][0]:
+                    return act[1:]
         return None
 
 
-def deeds_by_state(network, name, machine):
-    """For each state of the machine, the list of its deeds there.
+def deeds_by_state(network, start):
+    """For each machine and each of its states, the list of its deeds there, with all that their acts change.
 
-    Each has the index, the word, the places of the link and of the other machine, the letter, and the next state.
+    Each has the word, the act, and the next state in a tuple; a send and a take also have the place of the link. A send
+    has the hold that a post makes of a free link, in a tuple, the place of the other machine, and the hands with it. A
+    take has the name of the other machine and the letter.
     """
     names = names_in(network)
-    deeds = [[] for _ in range(machine[0])]
-    for index, (before, deed, behind) in enumerate(machine[2]):
-        if deed[0] == "step":
-            deeds[before].append((index, "step", None, None, None, behind))
-        else:
+    takes = takes_by_state(network)
+    lying = [channel for channel, queue in zip(channels_in(network), start[1]) if queue]
+    table = []
+    for name, machine in network[0]:
+        rows = [[] for _ in range(machine[0])]
+        for index, (before, deed, behind) in enumerate(machine[2]):
+            if deed[0] == "step":
+                rows[before].append(("step", ("step", name, index), (behind,)))
+                continue
             word, other, letter = deed
-            deeds[before].append((index, word, linked_at(network, name, other), names.index(other), letter, behind))
-    return deeds
+            link = len(names) + linked_at(network, name, other)
+            if word == "send":
+                far = names.index(other)
+                hands = hands_with(("hand", name, index, other), takes.get((other, name, letter), {}))
+                rows[before].append(("send", ("post", name, index), (behind,), link, ((name, letter, 0),), far, hands))
+            elif (other, name) in lying:
+                # Other letters than those of the start are taken when they are sent.
+                rows[before].append(("take", ("take", name, index), (behind,), link, other, letter))
+        table.append(rows)
+    return table
+
+
+def takes_by_state(network):
+    """The takes of a letter by one machine from another one, under these two and the letter, and there by the states.
+
+    Each is a pair of an index and the next state.
+    """
+    takes = {}
+    for name, machine in network[0]:
+        for index, (before, deed, behind) in enumerate(machine[2]):
+            if deed[0] == "take":
+                rows = takes.setdefault((name, deed[1], deed[2]), {})
+                rows.setdefault(before, []).append((index, behind))
+    return takes
+
+
+def hands_with(begun, takes):
+    """Pairs of a hand and the next state of the machine that takes, in a tuple, under the states of that machine."""
+    return {
+        state: [((*begun, number), (behind,)) for number, behind in takes[state]]
+        for state in takes
+    }
 
 
 def rests_of(network, start, link):
@@ -104,135 +155,39 @@ def rests_of(network, start, link):
     return [()]
 
 
-def weight_of_act(act):
-    """The number of moves of an act."""
-    return 2 if act[0] == "hand" else 1
+def parts_of(network):
+    """The places in rows that belong together, as one ascending list for each part.
+
+    A machine and a link belong together if the machine has a deed over the link, so each act changes just one part.
+    """
+    names = names_in(network)
+    groups = list(range(len(names) + len(network[1])))
+    for at, (name, machine) in enumerate(network[0]):
+        for other in sorted({deed[1] for _, deed, _ in machine[2] if deed[0] != "step"}):
+            joined = (groups[len(names) + linked_at(network, name, other)], groups[at])
+            groups = [min(joined) if group in joined else group for group in groups]
+    return [
+        [place for place, own in enumerate(groups) if own == group]
+        for group in sorted(set(groups))
+    ]
 
 
-def explored(source, limit):
-    """The ways from all nodes to which ways lead from the first one; raise an error for more nodes than the limit."""
-    found = {source.first: []}
-    waiting = [source.first]
-    while waiting:
-        node = waiting.pop()
-        ways = source.ways_from(node)
-        found[node] = ways
-        for _, behind in ways:
-            if behind not in found:
-                found[behind] = []
-                waiting.append(behind)
-        if len(found) > limit:
-            raise TooMany(limit)
-    return found
-
-
-def least_weights(ways, first):
-    """The least weight of a path to each node, and the node and the act before it on such a path."""
-    numbers, before, _ = weighed(lambda node: ways[node], first, is_last)
-    return (numbers, before)
-
-
-def is_last(_):
-    """Whether a search ends at a node; one that goes to all nodes does not end at any."""
-    return False
-
-
-def nearest_path(ways_from, first, is_wanted):
-    """A path of least weight from the first node to one that is wanted, or None."""
-    _, before, found = weighed(ways_from, first, is_wanted)
-    return None if found is None else path_to(before, found)
-
-
-def weighed(ways_from, first, is_wanted):
-    """The least weights, and the nodes and acts before, up to a nearest wanted node, and this node or None."""
-    numbers = {first: 0}
-    before = {}
-    number = 0
-    now, soon, later = [first], [], []
-    while now or soon:
-        for node in now:
-            # A node that was found again with a smaller weight was gone on from already.
-            if numbers[node] < number:
-                continue
-            if is_wanted(node):
-                return (numbers, before, node)
-            for act, behind in ways_from(node):
-                weight = weight_of_act(act)
-                if behind not in numbers or numbers[behind] > number + weight:
-                    numbers[behind] = number + weight
-                    before[behind] = (node, act)
-                    if weight == 1:
-                        soon.append(behind)
-                    else:
-                        later.append(behind)
-        now, soon, later = soon, later, []
-        number += 1
-    return (numbers, before, None)
-
-
-def path_to(before, node):
-    """The path to a node, put together from the last act before each node."""
-    acts = []
-    while node in before:
-        node, act = before[node]
-        acts.append(act)
-    return tuple(acts[::-1])
-
-
-def are_closed(source, value):
-    """Whether the value is an ascending tuple of nodes, the first one among them, from which no way leads out."""
-    if not isinstance(value, tuple) or not all([source.is_node(part) for part in value]) or not is_ascending(value):
+def are_closed(source, rows):
+    """Whether the rows ascend, the first one is among them, and no way leads out of them."""
+    machines = source.machines
+    inside = {row: True for row in rows}
+    if source.first not in inside or not is_ascending(rows):
         return False
-    inside = {part: True for part in value}
-    if source.first not in inside:
-        return False
-    for part in value:
-        for _, behind in source.ways_from(part):
+    for row in rows:
+        for _, behind in source.ways_from(row, machines):
             if behind not in inside:
                 return False
     return True
 
 
-def finished_order(ways, first):
-    """The list of the nodes to which ways lead from the first one, each behind all that are only reached through it."""
-    met = {first: True}
-    order = []
-    waiting = [(first, 0)]
-    while waiting:
-        node, done = waiting.pop()
-        if done == len(ways[node]):
-            order.append(node)
-            continue
-        waiting.append((node, done + 1))
-        behind = ways[node][done][1]
-        if behind not in met:
-            met[behind] = True
-            waiting.append((behind, 0))
-    return order
-
-
-def components(ways, first):
-    """A number for each node: the same one for nodes from which ways lead to one another, and greater ones ahead."""
-    back = {node: [] for node in ways}
-    for node in ways:
-        for _, behind in ways[node]:
-            back[behind].append(node)
-    places = {}
-    place = 0
-    for node in finished_order(ways, first)[::-1]:
-        if node not in places:
-            mark_component(back, node, places, place)
-            place += 1
-    return places
-
-
-def mark_component(back, node, places, place):
-    """Give a number to all nodes from which ways lead to this one and that have none yet."""
-    places[node] = place
-    waiting = [node]
-    while waiting:
-        here = waiting.pop()
-        for other in back[here]:
-            if other not in places:
-                places[other] = place
-                waiting.append(other)
+def rows_in(source, value):
+    """The list of the rows of a tuple of what the source reads, or None if the value is not such a tuple."""
+    if not isinstance(value, tuple):
+        return None
+    rows = [source.row_of(part) for part in value]
+    return None if None in rows else rows
