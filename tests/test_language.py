@@ -158,6 +158,53 @@ class Language(unittest.TestCase):
                     self.assertNotIn(key, seen, f"{path} {part.lineno}")
                     seen.add(key)
 
+    def test_double_underscore_methods(self):
+        def written(value):
+            if isinstance(value, ast.Call) and isinstance(value.func, ast.Attribute) and value.func.attr == "join":
+                return isinstance(value.func.value, ast.Constant)
+            if isinstance(value, ast.Call) and isinstance(value.func, ast.Name):
+                return value.func.id in ("str", "repr")
+            return isinstance(value, ast.JoinedStr) or isinstance(value, ast.Constant) and isinstance(value.value, str)
+
+        def counted(value):
+            if isinstance(value, ast.Call) and isinstance(value.func, ast.Name):
+                return value.func.id == "len"
+            return isinstance(value, ast.Constant) and type(value.value) is int
+
+        for path, tree in trees():
+            for part in ast.walk(tree):
+                if not isinstance(part, ast.FunctionDef) or part.name not in ("__init__", "__str__", "__len__"):
+                    continue
+                where = f"{path} {part.lineno}"
+                inside = list(ast.walk(part))
+                returns = [found for found in inside if isinstance(found, ast.Return)]
+                if part.name == "__init__":
+                    # Nothing is returned, not by a function inside it either.
+                    self.assertFalse(returns + [found for found in inside if isinstance(found, ast.Lambda)], where)
+                else:
+                    fits = written if part.name == "__str__" else counted
+                    self.assertIs(part.body[-1], returns[-1], where)
+                    self.assertTrue(all(fits(found.value) for found in returns), where)
+
+    def test_names_of_attributes(self):
+        # A method or a property does not have the name of an attribute that some class stores.
+        stored, methods, generators = set(), set(), set()
+        functions = []
+        for _, tree in trees():
+            for part in ast.walk(tree):
+                if isinstance(part, ast.Attribute) and isinstance(part.ctx, ast.Store):
+                    stored.add(part.attr)
+                if isinstance(part, ast.ClassDef):
+                    methods |= {found.name for found in part.body if isinstance(found, ast.FunctionDef)}
+                if isinstance(part, ast.FunctionDef):
+                    functions.append(part.name)
+                    inside = ast.walk(part)
+                    if any(isinstance(found, (ast.Yield, ast.YieldFrom)) for found in inside):
+                        generators.add(part.name)
+        self.assertFalse(stored & methods - {"done_moves", "capacity", "most"})
+        # No other function has the name of a generator.
+        self.assertFalse([name for name in generators if functions.count(name) > 1])
+
     def test_calls(self):
         own = {part.name for _, tree in trees() for part in ast.walk(tree) if isinstance(part, ast.FunctionDef)}
         for path, tree in trees():

@@ -22,18 +22,14 @@ class Deeds:
     """The deeds of the machines of a network in their states; machines are told by their places."""
 
     def __init__(self, network):
-        self.machines = list(range(len(network[0])))
-        self.names = names_in(network)
+        self._names = names_in(network)
         self._finals = [machine[1] for _, machine in network[0]]
-        self._rows = [[[] for _ in range(machine[0])] for _, machine in network[0]]
-        for rows, (_, machine) in zip(self._rows, network[0]):
-            for before, deed, _ in machine[2]:
-                rows[before].append(deed)
+        self._rows = [deeds_in_states(machine) for _, machine in network[0]]
 
     def can_move(self, at, states, letters):
         """Whether a machine can move."""
         for deed in self._rows[at][states[at]]:
-            if deed[0] != "take" or letters.get((deed[1], self.names[at])) == deed[2]:
+            if deed[0] != "take" or letters.get((deed[1], self._names[at])) == deed[2]:
                 return True
         return False
 
@@ -53,10 +49,18 @@ class Deeds:
         sender, taker = channel
         if channel not in letters:
             return False
-        at = self.names.index(taker)
+        at = self._names.index(taker)
         deeds = self._rows[at][states[at]]
         takes = [deed[2] for deed in deeds if deed[:2] == ("take", sender)]
         return deeds != [] and len(takes) == len(deeds) and letters[channel] not in takes
+
+
+def deeds_in_states(machine):
+    """For each state of a machine, the list of its deeds there."""
+    rows = [[] for _ in range(machine[0])]
+    for before, deed, _ in machine[2]:
+        rows[before].append(deed)
+    return rows
 
 
 def letters_in(network, configuration):
@@ -124,7 +128,8 @@ def movable_machines(network, configuration):
     check_configuration(network, configuration)
     deeds = Deeds(network)
     letters = letters_in(network, configuration)
-    return tuple([deeds.names[at] for at in deeds.machines if deeds.can_move(at, configuration[0], letters)])
+    names = names_in(network)
+    return tuple([name for at, name in enumerate(names) if deeds.can_move(at, configuration[0], letters)])
 
 
 def is_dead_end(network, configuration):

@@ -68,7 +68,7 @@ class BranchViews:
         inside = inner_network(network, one, other)
         source = ViewWays(inside, first_in(inside))
         machines = source.machines
-        rows, ways = explored(source.first, lambda row: source.ways_from(row, machines), 1, MAX_VIEWS)
+        rows, ways = explored(source, machines, 1, MAX_VIEWS)
         signs = outer_signs(network, one, other)
         self.exposed = [source.exposing_send(row, machines) is not None for row in rows]
         # Pairs of an act and the view behind it, and triples with a sign in front of these.
@@ -120,14 +120,14 @@ def table_of_branch(views):
         table.append(row)
         if len(sets) > MAX_SETS:
             raise TooMany(MAX_SETS)
-    return (table, [here & exposed != 0 for here in sets])
+    return (table, [(here & exposed) != 0 for here in sets])
 
 
 def set_behind(here, pairs):
     """The set behind a sign, of which each pair has the bit of a view and the set to which an act leads from it."""
     behind = 0
     for bit, ahead in pairs:
-        if here & bit != 0:
+        if here & bit:
             behind = behind | ahead
     return behind
 

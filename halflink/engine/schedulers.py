@@ -173,7 +173,7 @@ class Alternating(Scheduler):
             raise InvalidOperation("not two schedulers")
         self._next = one.copied()
         self._other = two.copied()
-        self._title = f"{one} and {two}"
+        self._titles = [str(one), str(two)]
 
     def __call__(self, moves):
         check_choice(moves)
@@ -183,11 +183,11 @@ class Alternating(Scheduler):
         return move
 
     def __str__(self):
-        return self._title
+        return " and ".join(self._titles)
 
     def copied(self):
         """A scheduler that goes on as this one does."""
         scheduler = Alternating(self._next, self._other)
         # The one that is asked next need not be the one that was given first.
-        scheduler._title = self._title
+        scheduler._titles = self._titles
         return scheduler

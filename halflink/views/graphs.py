@@ -11,19 +11,19 @@ def weight_of_act(act):
     return 2 if act[0] == "hand" else 1
 
 
-def explored(first, ways_from, times, limit):
-    """The list of all rows to which ways lead from the first one, and the graph in which they have their places there.
+def explored(source, machines, times, limit):
+    """All rows to which acts of some machines lead from the first row of a source, as a list, and their graph.
 
     An error is raised if so many times the number of rows is more than the limit.
     """
-    numbers = {first: 0}
-    rows = [first]
+    numbers = {source.first: 0}
+    rows = [source.first]
     ways = [[]]
     waiting = [0]
     while waiting:
         here = waiting.pop()
         found = ways[here]
-        for act, behind in ways_from(rows[here]):
+        for act, behind in source.ways_from(rows[here], machines):
             number = numbers.get(behind)
             if number is None:
                 number = len(rows)

@@ -12,9 +12,8 @@ class Part:
 
     def __init__(self, source, places, times, limit):
         self.places = places
-        machines = [place for place in places if place in source.machines]
-        self.machines = machines
-        self.all_rows, self.ways = explored(source.first, lambda row: source.ways_from(row, machines), times, limit)
+        self.machines = [place for place in places if place in source.machines]
+        self.all_rows, self.ways = explored(source, self.machines, times, limit)
 
     def own_rows(self):
         """The list of the rows without all other places."""
