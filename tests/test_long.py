@@ -14,7 +14,7 @@ from halflink.runs.runner import Runner
 from halflink.runs.runs import after_run, configurations_on, first_crossing, is_run
 from tests import spec
 from tests.case import Case
-from tests.samples import CALL, FLOW, NETWORKS, TALKERS, random_network, random_start
+from tests.samples import CALL, FLOW, NETWORKS, random_network, random_start
 
 SENDS = make_machine(1, (0, ("send", "d", "x"), 0))
 TAKES = make_machine(1, (0, ("take", "c", "x"), 0))

@@ -126,9 +126,9 @@ def is_doing(machine, word, value):
     return tuple(signs) == word
 
 
-# Sets are looked up in pieces of so many bits, so that the tables of the pieces are small.
+# Sets are looked up in pieces of so many bits, so that the tables of the pieces are small; and the greatest piece.
 PIECE = 6
-LAST_PIECE = (1 << PIECE) - 1
+GREATEST_PIECE = 63
 
 
 class Doing:
@@ -181,7 +181,7 @@ class Doing:
         """What lies behind all signs that some states of a set allow, as one integer."""
         ahead = 0
         for piece in self._pieces:
-            ahead = ahead | piece[here & LAST_PIECE]
+            ahead = ahead | piece[here & GREATEST_PIECE]
             here = here >> PIECE
         return ahead
 
