@@ -13,9 +13,9 @@ from halflink.networks.networks import channels_in, check_name, check_network, n
 from halflink.runs.runs import frozen, walked
 from halflink.values import is_row
 from halflink.views.oneway import one_way_parts, views_in
-from halflink.views.parts import joined_run
+from halflink.views.parts import are_closed, joined_run
 from halflink.views.views import linked_at, other_end
-from halflink.views.ways import are_closed, rows_in
+from halflink.views.ways import rows_in
 
 
 class Deeds:

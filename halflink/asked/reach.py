@@ -5,9 +5,9 @@ from halflink.networks.networks import channels_in, check_network, names_in
 from halflink.runs.runs import behind_moves, found_step, is_run_from
 from halflink.values import is_row, is_whole
 from halflink.views.oneway import MAX_VIEWS, one_way_parts
-from halflink.views.parts import explored_parts, joined_run, rows_of
+from halflink.views.parts import are_closed, explored_parts, joined_run, rows_of
 from halflink.views.views import linked_at
-from halflink.views.ways import are_closed, rows_in
+from halflink.views.ways import rows_in
 
 
 class CountedWays:

@@ -6,8 +6,8 @@ from halflink.networks.configurations import are_states_of, first_in, start_in
 from halflink.networks.networks import channels_in, check_network
 from halflink.runs.runs import behind_step_of, configurations_behind, found_step, is_run_from
 from halflink.values import is_row, is_whole, is_whole_from
-from halflink.views.parts import explored_parts, rows_of
-from halflink.views.ways import ViewWays, are_closed, rows_in
+from halflink.views.parts import are_closed, explored_parts, rows_of
+from halflink.views.ways import ViewWays, rows_in
 
 MAX_CAPACITY = 20
 MAX_MOST = 100

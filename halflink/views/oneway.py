@@ -6,9 +6,9 @@ from halflink.networks.networks import check_network
 from halflink.runs.runs import frozen, walked
 from halflink.values import is_row, is_whole
 from halflink.views.graphs import weight_of_act
-from halflink.views.parts import explored_parts, numbered_rows, rows_of
+from halflink.views.parts import are_closed, explored_parts, numbered_rows, rows_of
 from halflink.views.views import short_start, viewed_start
-from halflink.views.ways import ViewWays, are_closed, rows_in
+from halflink.views.ways import ViewWays, rows_in
 
 MAX_VIEWS = 2000
 

@@ -1,5 +1,7 @@
 """The parts of a network, which are searched one by one: each row of the whole has a row of each part."""
 
+from halflink.errors import TooMany
+from halflink.values import is_ascending
 from halflink.views.graphs import explored, least_weights, path_to
 from halflink.views.views import run_in_acts
 
@@ -81,3 +83,26 @@ def joined_run(runs):
     if None in runs:
         return None
     return tuple([move for run in runs for move in run])
+
+
+def are_closed(source, rows):
+    """Whether the rows of a list ascend, the first one is among them, and no way leads out of them."""
+    inside = {row: True for row in rows}
+    if source.first not in inside or not is_ascending(rows):
+        return False
+    if len(source.parts) > 1 and are_all_reached(source, rows):
+        return True
+    for row in rows:
+        for _, behind in source.ways_from(row, source.machines):
+            if behind not in inside:
+                return False
+    return True
+
+
+def are_all_reached(source, rows):
+    """Whether the rows of an ascending list are just those to which ways lead. Several parts tell this quickly."""
+    try:
+        parts = explored_parts(source, len(rows))
+    except TooMany:
+        return False
+    return count_of(parts) == len(rows) and sorted(rows_of(parts)) == rows

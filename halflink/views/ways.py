@@ -7,7 +7,7 @@ parts, the places that belong together, and with the methods row_of and ways_fro
 
 from halflink.networks.configurations import are_states_of, queue_in
 from halflink.networks.networks import channels_in, names_in
-from halflink.values import is_ascending, is_row
+from halflink.values import is_row
 from halflink.views.views import is_loose_hold, is_rest_hold, linked_at, other_end, rest_hold, view_of_start
 
 
@@ -27,12 +27,15 @@ class ViewWays:
 
     def row_of(self, value):
         """The row of a view, or None if the value is not a view."""
-        if not is_row(value, 2) or not are_states_of(self._net, value[0]) or not is_row(value[1], len(self._net[1])):
+        if not isinstance(value, tuple) or len(value) != 2:
             return None
-        for at, hold in enumerate(value[1]):
+        states, holds = value
+        if not are_states_of(self._net, states) or not is_row(holds, len(self._net[1])):
+            return None
+        for at, hold in enumerate(holds):
             if hold != () and not self._is_hold(hold, at):
                 return None
-        return value[0] + value[1]
+        return states + holds
 
     def _is_hold(self, value, at):
         """Whether the value is a hold of a link that is not free."""
@@ -170,19 +173,6 @@ def parts_of(network):
         [place for place, own in enumerate(groups) if own == group]
         for group in sorted(set(groups))
     ]
-
-
-def are_closed(source, rows):
-    """Whether the rows ascend, the first one is among them, and no way leads out of them."""
-    machines = source.machines
-    inside = {row: True for row in rows}
-    if source.first not in inside or not is_ascending(rows):
-        return False
-    for row in rows:
-        for _, behind in source.ways_from(row, machines):
-            if behind not in inside:
-                return False
-    return True
 
 
 def rows_in(source, value):
