@@ -205,6 +205,15 @@ class Language(unittest.TestCase):
         # No other function has the name of a generator.
         self.assertFalse([name for name in generators if functions.count(name) > 1])
 
+    def test_stars(self):
+        # Behind a star in a call stand names, attributes off a name, and literals.
+        for path, tree in trees():
+            for part in ast.walk(tree):
+                for given in getattr(part, "args", []) if isinstance(part, ast.Call) else []:
+                    if isinstance(given, ast.Starred):
+                        value = given.value.value if isinstance(given.value, ast.Attribute) else given.value
+                        self.assertIsInstance(value, ast.Name, f"{path} {part.lineno}")
+
     def test_calls(self):
         own = {part.name for _, tree in trees() for part in ast.walk(tree) if isinstance(part, ast.FunctionDef)}
         for path, tree in trees():

@@ -9,8 +9,8 @@ from halflink.networks.networks import channels_in, check_network
 from halflink.runs.runs import behind_moves, found_step, is_run_from
 from halflink.values import is_row, is_whole, is_whole_from
 from halflink.views.graphs import components, least_weights, path_to
-from halflink.views.oneway import one_way_parts
-from halflink.views.parts import joined_run, numbered_rows
+from halflink.views.oneway import MAX_VIEWS, one_way_parts
+from halflink.views.parts import numbered_rows, whole_of
 from halflink.views.views import linked_at, run_in_acts, short_start
 from halflink.views.ways import ViewWays
 
@@ -86,17 +86,21 @@ def greatest_numbers(ways, places, gains, begun):
     return [best[place] for place in places]
 
 
-def greatest_run(part, numbers, gains):
-    """A run of a part that reaches the greatest of the numbers of its rows."""
+def greatest_run(source, parts, numbers, gains):
+    """A run that reaches the greatest of the numbers, a dict under the rows."""
+    greatest = max(list(numbers.values()))
+    wanted = min([row for row in numbers if numbers[row] == greatest])
+    if wanted == source.first:
+        return ()
+    whole = whole_of(source, parts, MAX_VIEWS)
+    rows = whole.all_rows
     # Along these ways, the load is as great as it can be.
     full = [
-        [(act, behind) for act, behind in row if numbers[behind] == numbers[node] + gains.get(act, 0)]
-        for node, row in enumerate(part.ways)
+        [(act, behind) for act, behind in ways if numbers[rows[behind]] == numbers[row] + gains.get(act, 0)]
+        for row, ways in zip(rows, whole.ways)
     ]
     _, before = least_weights(full, 0)
-    greatest = max(numbers)
-    _, node = min([(part.all_rows[node], node) for node, number in enumerate(numbers) if number == greatest])
-    return run_in_acts(path_to(before, node))
+    return run_in_acts(path_to(before, rows.index(wanted)))
 
 
 def placed_parts(network, start):
@@ -134,15 +138,14 @@ def load_paper(network, *, weights=None, start=None):
     given = weights_in(network, weights)
     source, placed = placed_parts(network, start)
     gains = gains_of(network, given)
-    for part, places in placed:
-        growing = growing_way(part.ways, places, gains)
-        if growing is not None:
-            return growing_paper(part.ways, growing)
     parts = [part for part, _ in placed]
     numbers = numbers_of_parts(network, source, placed, given)
-    rows = sorted([(row, number) for number, row in numbered_rows(parts, numbers)])
-    run = joined_run([greatest_run(part, own, gains) for part, own in zip(parts, numbers)])
-    return ("bounded", {source.view_of(row): number for row, number in rows}, run)
+    if numbers is None:
+        whole = whole_of(source, parts, MAX_VIEWS)
+        return growing_paper(whole.ways, growing_way(whole.ways, components(whole.ways), gains))
+    loads = {row: number for row, number in sorted([(row, number) for number, row in numbered_rows(parts, numbers)])}
+    run = greatest_run(source, parts, loads, gains)
+    return ("bounded", {source.view_of(row): loads[row] for row in loads}, run)
 
 
 def greatest_in(network, source, placed, weights):

@@ -12,8 +12,8 @@ from halflink.networks.configurations import check_configuration
 from halflink.networks.networks import channels_in, check_name, check_network, names_in
 from halflink.runs.runs import frozen, walked
 from halflink.values import is_row
-from halflink.views.oneway import one_way_parts, views_in
-from halflink.views.parts import are_closed, joined_run
+from halflink.views.oneway import MAX_VIEWS, one_way_parts, views_in
+from halflink.views.parts import are_closed, whole_of
 from halflink.views.views import linked_at, other_end
 from halflink.views.ways import rows_in
 
@@ -155,33 +155,28 @@ def refusing_channels(network, configuration):
     return tuple([channel for channel in channels_in(network) if deeds.is_refused(channel, configuration[0], letters)])
 
 
-def runs_in(network, part, judge):
-    """A shortest run to rows of a part that are not unwanted, and one to rows that are wanted, or None for either."""
-    told = [
+def told_of(network, part, judge):
+    """What a judge tells of the rows of a part."""
+    return [
         judge(row, letters_seen(network, row, part.places), part.machines, part.places)
         for row in part.all_rows
     ]
-    some = [number for number, answer in enumerate(told) if answer is not None]
-    wanted = [number for number in some if told[number]]
-    return (part.nearest(some)[0] if some else None, part.nearest(wanted)[0] if wanted else None)
 
 
-def shortest_of(pairs):
-    """The shortest run that does one of the two runs of each part, and the second one of at least one part; or None."""
-    if None in [some for some, _ in pairs]:
-        return None
-    more = [(len(wanted) - len(some), at) for at, (some, wanted) in enumerate(pairs) if wanted is not None]
-    if not more:
-        return None
-    _, least = min(more)
-    return joined_run([wanted if at == least else some for at, (some, wanted) in enumerate(pairs)])
+def is_any_wanted(told):
+    """Whether some row of the whole is wanted, from what a judge tells of the rows of each part."""
+    return all([set(answers) != {None} for answers in told]) and any([True in answers for answers in told])
 
 
 def paper_for(network, start, judge):
     """Any paper that shows whether a run leads to a configuration that is wanted, with a shortest run."""
     source, parts = one_way_parts(network, start)
-    run = shortest_of([runs_in(network, part, judge) for part in parts])
-    return ("closed", views_in(source, parts)) if run is None else ("run", run)
+    if not is_any_wanted([told_of(network, part, judge) for part in parts]):
+        return ("closed", views_in(source, parts))
+    whole = whole_of(source, parts, MAX_VIEWS)
+    told = told_of(network, whole, judge)
+    run, _ = whole.nearest([number for number, answer in enumerate(told) if answer])
+    return ("run", run)
 
 
 def is_paper_for(network, value, start, judge):

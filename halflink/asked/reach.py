@@ -5,7 +5,7 @@ from halflink.networks.networks import channels_in, check_network, names_in
 from halflink.runs.runs import behind_moves, found_step, is_run_from
 from halflink.values import is_row, is_whole
 from halflink.views.oneway import MAX_VIEWS, one_way_parts
-from halflink.views.parts import are_closed, explored_parts, joined_run, rows_of
+from halflink.views.parts import are_closed, explored_parts, rows_of, run_to_wanted
 from halflink.views.views import linked_at
 from halflink.views.ways import rows_in
 
@@ -112,21 +112,10 @@ def reach_paper(network, configuration, *, start=None):
     """Any paper that shows whether a run leads to the configuration, with a shortest run."""
     source, _ = counted_ways(network, configuration, start)
     parts = explored_parts(source, MAX_VIEWS)
-    met = [
-        [number for number, row in enumerate(part.all_rows) if source.is_met(row, part.places)]
-        for part in parts
-    ]
-    run = run_to_all(parts, met)
+    run = run_to_wanted(source, parts, MAX_VIEWS, source.is_met)
     if run is None:
         return ("closed", tuple([source.counted_view_of(row) for row in sorted(rows_of(parts))]))
     return ("run", run)
-
-
-def run_to_all(parts, wanted):
-    """Any shortest run to one of the wanted rows of each part, which are told by their numbers, or None."""
-    if [] in wanted:
-        return None
-    return joined_run([part.nearest(numbers)[0] for part, numbers in zip(parts, wanted)])
 
 
 def is_reach_paper(network, configuration, value, *, start=None):
@@ -186,13 +175,9 @@ def meeting_run_by(network, states, *, start=None):
     """Any shortest run to a configuration with the given states, a dict, or None."""
     check_network(network)
     check_states(network, states)
-    _, parts = one_way_parts(network, start)
+    source, parts = one_way_parts(network, start)
     asked = {at: states[name] for at, name in enumerate(names_in(network)) if name in states}
-    wanted = []
-    for part in parts:
-        own = [at for at in part.machines if at in asked]
-        wanted.append([
-            number for number, row in enumerate(part.all_rows)
-            if all([row[at] == asked[at] for at in own])
-        ])
-    return run_to_all(parts, wanted)
+    return run_to_wanted(
+        source, parts, MAX_VIEWS,
+        lambda row, places: all([row[at] == asked[at] for at in places if at in asked]),
+    )

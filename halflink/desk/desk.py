@@ -10,10 +10,9 @@ from halflink.machines.machines import check_machine, check_state
 from halflink.networks.configurations import crossed_in, letters_lying, start_in
 from halflink.networks.networks import check_name, check_network, names_in
 from halflink.values import is_whole
-from halflink.views.oneway import MAX_VIEWS, crossing_run
-from halflink.views.parts import count_of, explored_parts
+from halflink.views.oneway import crossing_run, views_ahead
+from halflink.views.parts import count_of
 from halflink.views.views import short_start
-from halflink.views.ways import ViewWays
 
 
 class Desk:
@@ -101,7 +100,10 @@ class Desk:
     def view_count(self):
         """The number of views to which paths lead, 0 from a crossed configuration."""
         start = short_start(self.network, self.now)
-        return 0 if self.crossed else count_of(explored_parts(ViewWays(self.network, start), MAX_VIEWS))
+        if self.crossed:
+            return 0
+        _, parts = views_ahead(self.network, start)
+        return count_of(parts)
 
     def is_unseen(self, name, machine, state):
         """Whether a swap would be unseen."""

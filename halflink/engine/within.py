@@ -1,12 +1,11 @@
 """Runs within bounds: no queue has more letters than the capacity, and all of them together no more than the most."""
 
-from halflink.asked.reach import run_to_all
 from halflink.errors import InvalidNumber, InvalidOperation, TooMany
 from halflink.networks.configurations import are_states_of, first_in, start_in
 from halflink.networks.networks import channels_in, check_network
 from halflink.runs.runs import behind_step_of, configurations_behind, found_step, is_run_from
 from halflink.values import is_row, is_whole, is_whole_from
-from halflink.views.parts import are_closed, explored_parts, rows_of
+from halflink.views.parts import are_closed, explored_parts, rows_of, run_to_wanted
 from halflink.views.ways import ViewWays, rows_in
 
 MAX_CAPACITY = 20
@@ -132,11 +131,10 @@ def quiet_paper(network, row):
     check_row(network, row)
     source = RowWays(network)
     parts = explored_parts(source, MAX_FOUND)
-    met = [
-        [number for number, found in enumerate(part.all_rows) if all([found[at] == row[at] for at in part.machines])]
-        for part in parts
-    ]
-    run = run_to_all(parts, met)
+    run = run_to_wanted(
+        source, parts, MAX_FOUND,
+        lambda found, places: all([found[at] == row[at] for at in places if at < len(row)]),
+    )
     if run is None:
         return ("closed", tuple([source.states_of(found) for found in sorted(rows_of(parts))]))
     return ("run", run)

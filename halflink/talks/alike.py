@@ -7,9 +7,7 @@ from halflink.talks.tables import MAX_SETS, signs_of_both, table_of_rows
 from halflink.talks.talks import Talk
 from halflink.talks.words import Doing, check_single, check_word, mirrored_sign
 from halflink.values import is_ascending, is_name, is_row
-from halflink.views.oneway import MAX_VIEWS, crossing_ahead
-from halflink.views.parts import explored_parts
-from halflink.views.ways import ViewWays
+from halflink.views.oneway import is_crossing_ahead, views_ahead
 
 
 def paired_network(left, right):
@@ -151,12 +149,12 @@ def is_telling(first, second, value):
 
 def seen_of_pair(left, right):
     """Whether a crossing is reachable in the pair, and whether the right machine's last state with empty queues is."""
-    source = ViewWays(pair_of(left, right), first_in(pair_of(left, right)))
-    parts = explored_parts(source, MAX_VIEWS)
+    network = pair_of(left, right)
+    source, parts = views_ahead(network, first_in(network))
     # The rows have the states of both machines and the hold of the link.
     asked = {1: right[0] - 1, 2: ()}
     met = []
     for part in parts:
         own = [place for place in part.places if place in asked]
         met.append(any([all([row[place] == asked[place] for place in own]) for row in part.all_rows]))
-    return (crossing_ahead(source, parts) is not None, all(met))
+    return (is_crossing_ahead(source, parts), all(met))

@@ -6,43 +6,44 @@ from halflink.networks.networks import check_network
 from halflink.runs.runs import frozen, walked
 from halflink.values import is_row, is_whole
 from halflink.views.graphs import weight_of_act
-from halflink.views.parts import are_closed, explored_parts, numbered_rows, rows_of
+from halflink.views.parts import are_closed, explored_parts, numbered_rows, rows_of, whole_of
 from halflink.views.views import short_start, viewed_start
 from halflink.views.ways import ViewWays, rows_in
 
 MAX_VIEWS = 2000
 
 
-def crossing_ahead(source, parts):
-    """Any shortest run to a crossing, which lies in one of the parts; or None."""
-    runs = [run for part in parts for run in crossings_in(source, part)]
-    return min(runs, key=len) if runs else None
+def is_crossing_ahead(source, parts):
+    """Whether a run leads to a crossing, which lies in one of the parts."""
+    return any([exposed_numbers(source, part) for part in parts])
 
 
-def crossings_in(source, part):
-    """The list of any shortest run of a part to a crossing, or of nothing."""
-    exposed = [
+def exposed_numbers(source, part):
+    """The list of the numbers of the exposed rows of a part."""
+    return [
         number for number, row in enumerate(part.all_rows)
         if source.exposing_send(row, part.machines) is not None
     ]
-    if not exposed:
-        return []
-    run, number = part.nearest(exposed)
-    return [run + (source.exposing_send(part.all_rows[number], part.machines),)]
 
 
-def crossing_from(network, start):
-    """Any shortest run to a crossing from a checked start, or None."""
-    if crossed_in(network, start):
-        return ()
+def crossing_ahead(source, parts):
+    """Any shortest run to a crossing, or None."""
+    if not is_crossing_ahead(source, parts):
+        return None
+    whole = whole_of(source, parts, MAX_VIEWS)
+    run, number = whole.nearest(exposed_numbers(source, whole))
+    return run + (source.exposing_send(whole.all_rows[number], whole.machines),)
+
+
+def views_ahead(network, start):
+    """The source of the views from a checked and uncrossed start, and its parts."""
     source = ViewWays(network, start)
-    return crossing_ahead(source, explored_parts(source, MAX_VIEWS))
+    return (source, explored_parts(source, MAX_VIEWS))
 
 
 def one_way_parts(network, start):
     """The source of the views and its parts; raise the errors that are due where a link can be crossed."""
-    source = ViewWays(network, viewed_start(network, start))
-    parts = explored_parts(source, MAX_VIEWS)
+    source, parts = views_ahead(network, viewed_start(network, start))
     run = crossing_ahead(source, parts)
     if run is not None:
         raise Crossed(run)
@@ -54,7 +55,7 @@ def views_in(source, parts):
     return tuple([source.view_of(row) for row in sorted(rows_of(parts))])
 
 
-def numbered_views(source, parts):
+def numbered_views(parts):
     """Pairs of the least weight of a path to a view and the row of this view, for all views, ascending."""
     return sorted(numbered_rows(parts, [part.weights() for part in parts]))
 
@@ -62,20 +63,28 @@ def numbered_views(source, parts):
 def is_one_way(network, *, start=None):
     """Whether no run leads to a configuration in which a link is crossed."""
     check_network(network)
-    return crossing_from(network, short_start(network, start)) is None
+    first = short_start(network, start)
+    if crossed_in(network, first):
+        return False
+    source, parts = views_ahead(network, first)
+    return not is_crossing_ahead(source, parts)
 
 
 def crossing_run(network, *, start=None):
     """Any shortest run to a crossing, or None."""
     check_network(network)
-    return crossing_from(network, short_start(network, start))
+    first = short_start(network, start)
+    if crossed_in(network, first):
+        return ()
+    source, parts = views_ahead(network, first)
+    return crossing_ahead(source, parts)
 
 
 def view_numbers(network, *, start=None):
     """All views to which paths lead, with the least weight of such a path, by these numbers."""
     check_network(network)
-    source = ViewWays(network, viewed_start(network, start))
-    for number, row in numbered_views(source, explored_parts(source, MAX_VIEWS)):
+    source, parts = views_ahead(network, viewed_start(network, start))
+    for number, row in numbered_views(parts):
         yield (source.view_of(row), number)
 
 
@@ -85,8 +94,7 @@ def one_way_paper(network, *, start=None):
     first = short_start(network, start)
     if crossed_in(network, first):
         return ("crossing", ())
-    source = ViewWays(network, first)
-    parts = explored_parts(source, MAX_VIEWS)
+    source, parts = views_ahead(network, first)
     run = crossing_ahead(source, parts)
     return ("closed", views_in(source, parts)) if run is None else ("crossing", run)
 
@@ -128,12 +136,11 @@ def nearest_paper(network, *, start=None):
     first = short_start(network, start)
     if crossed_in(network, first):
         return ((), {})
-    source = ViewWays(network, first)
-    parts = explored_parts(source, MAX_VIEWS)
+    source, parts = views_ahead(network, first)
     run = crossing_ahead(source, parts)
     if run is None:
         return None
-    near = sorted([(row, number) for number, row in numbered_views(source, parts) if number < len(run)])
+    near = sorted([(row, number) for number, row in numbered_views(parts) if number < len(run)])
     return (run, {source.view_of(row): number for row, number in near})
 
 

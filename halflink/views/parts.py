@@ -1,4 +1,7 @@
-"""The parts of a network, which are searched one by one: each row of the whole has a row of each part."""
+"""The parts of a network, which are searched one by one: each row of the whole has a row of each part.
+
+Whether there is a run, and how great numbers become, is told by the parts. The run itself is searched in the whole.
+"""
 
 from halflink.errors import TooMany
 from halflink.values import is_ascending
@@ -26,6 +29,10 @@ class Part:
         numbers, _ = least_weights(self.ways, 0)
         return [numbers[number] for number in range(len(self.all_rows))]
 
+    def numbers_of(self, is_wanted):
+        """The list of the numbers of those rows whose places in this part are wanted."""
+        return [number for number, row in enumerate(self.all_rows) if is_wanted(row, self.places)]
+
     def nearest(self, wanted):
         """Any shortest run to one of the wanted rows, of which there is at least one, and the number of this row."""
         numbers, before = least_weights(self.ways, 0)
@@ -42,6 +49,11 @@ def explored_parts(source, limit):
         many = many * len(part.all_rows)
         parts.append(part)
     return parts
+
+
+def whole_of(source, parts, limit):
+    """The whole as one part."""
+    return parts[0] if len(parts) == 1 else Part(source, list(range(len(source.first))), 1, limit)
 
 
 def count_of(parts):
@@ -78,11 +90,19 @@ def numbered_rows(parts, numbers):
     return list(zip(sums, rows_of(parts)))
 
 
-def joined_run(runs):
-    """The run that does a run of each part, one after the other, or None if one of them is None."""
-    if None in runs:
+def run_to_wanted(source, parts, limit, is_wanted):
+    """Any shortest run to a row whose places in all parts are wanted, or None.
+
+    A function tells whether the places of a part are wanted in a row of it.
+    """
+    wanted = [part.numbers_of(is_wanted) for part in parts]
+    if [] in wanted:
         return None
-    return tuple([move for run in runs for move in run])
+    if all([numbers[0] == 0 for numbers in wanted]):
+        return ()
+    whole = whole_of(source, parts, limit)
+    run, _ = whole.nearest(whole.numbers_of(is_wanted))
+    return run
 
 
 def are_closed(source, rows):
